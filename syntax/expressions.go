@@ -130,9 +130,7 @@ func (p *parser) fieldName(n *api.Node) {
 func (p *parser) thing() api.Node {
 	switch p.token().Kind {
 	case api.TokInt:
-		n := p.node(api.EInt)
-		n.N = p.take().N
-		return n
+		return p.number(api.EInt)
 	case api.TokName:
 		n := p.node(api.EPath)
 		n.Name = p.path(3)

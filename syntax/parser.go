@@ -90,6 +90,12 @@ func (p *parser) node(kind int) api.Node {
 	return api.Node{Kind: kind, At: p.token().At}
 }
 
+func (p *parser) number(kind int) api.Node {
+	n := p.node(kind)
+	n.N = p.takeKind(api.TokInt).N
+	return n
+}
+
 // path reads a path of at most so many names. It is left to whoever asks for it what a `::` behind it means.
 func (p *parser) path(most int) string {
 	path := p.name()

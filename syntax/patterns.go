@@ -9,9 +9,7 @@ import (
 func (p *parser) pattern() api.Node {
 	switch p.token().Kind {
 	case api.TokInt:
-		n := p.node(api.PInt)
-		n.N = p.take().N
-		return n
+		return p.number(api.PInt)
 	case api.TokName:
 		return p.pathPattern()
 	}
