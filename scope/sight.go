@@ -18,6 +18,7 @@ type sight struct {
 	count int       // of the lifetimes, also those without names
 
 	unwritten func(at int) int // the lifetime of a place where none is written
+	unnamed   bool             // whether none may be written
 	within    bool             // whether it is within the types of a YFn
 }
 
@@ -149,7 +150,7 @@ func (s *sight) itemType(n api.Node) (t api.Type, lives, types int) {
 // life answers the number of the lifetime at a place: of the one that is written, if one is.
 func (s *sight) life(name string, at int) int {
 	switch {
-	case s.within:
+	case s.within || s.unnamed && name != "":
 		refuse(api.ErrLife, at)
 	case name == "":
 		return s.unwritten(at)

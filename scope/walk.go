@@ -54,6 +54,18 @@ func paramsOf(t api.Type) []int {
 	return params
 }
 
+// Lifeless is a type whose lifetimes are all 0.
+func Lifeless(t api.Type) api.Type {
+	out := api.Type{Kind: t.Kind, N: t.N}
+	if len(t.Lives) > 0 {
+		out.Lives = make([]int, len(t.Lives))
+	}
+	for _, arg := range t.Args {
+		out.Args = append(out.Args, Lifeless(arg))
+	}
+	return out
+}
+
 // counted is a type whose lifetimes are counted on from a number. `'static` stays.
 func counted(t api.Type, from int) api.Type {
 	out := bare(t)
