@@ -37,7 +37,7 @@ func (b *body) choice(n api.Node, wanted typ) (api.Node, typ) {
 		return with(n, condition, block), empty
 	}
 	first, t := b.look(n.Kids[1], wanted)
-	if wanted == none && t != never {
+	if t != never { // otherwise what is wanted, if anything is, still helps
 		wanted = t
 	}
 	second, other := b.look(n.Kids[2], wanted)

@@ -56,13 +56,12 @@ func (b *body) tupleOf(n api.Node, wanted typ) (api.Node, typ) {
 
 func (b *body) field(n api.Node) (api.Node, typ) {
 	kid, t := b.value(n.Kids[0], none)
-	part := none
 	if n.Name == "" {
-		part = b.tuplePart(n, kid, t)
-	} else {
-		n.N, part = b.structPart(n, kid, t)
+		return with(n, kid), b.tuplePart(n, kid, t)
 	}
-	return with(n, kid), part
+	part, of := b.structPart(n, kid, t)
+	n.N = part
+	return with(n, kid), of
 }
 
 func (b *body) tuplePart(n, kid api.Node, t typ) typ {
@@ -70,7 +69,7 @@ func (b *body) tuplePart(n, kid api.Node, t typ) typ {
 	if !ok {
 		refuse(api.ErrType, kid.At)
 	}
-	if n.N < 0 || n.N >= len(s.args) {
+	if n.N >= len(s.args) {
 		refuse(api.ErrName, n.At)
 	}
 	return s.args[n.N]

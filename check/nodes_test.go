@@ -120,7 +120,7 @@ func TestNever(t *testing.T) {
 func TestCalls(t *testing.T) {
 	typed(t, "fn f(x: int, y: &bool) -> (int, bool) { (x, *y) }", "f(n, &true).0", "Field:int[Fn#10:(int, bool)[Var.n:int Ref:&'0 bool[Bool#1:bool]]]")
 	typed(t, "", "k::id(n)", "Fn#4<int>:int[Var.n:int]")
-	typed(t, "", "k::id::<bool>(true); k::id(&n); n", "Fn#4<bool>:bool[Bool#1:bool]", "Fn#4<&'0 int>:&'0 int[Ref:&'0 int[Var.n:int]]", "Var.n:int")
+	typed(t, "", "k::id::<bool>(true); k::id::<&int>(&n); k::id(&n); n", "Fn#4<bool>:bool[Bool#1:bool]", "Fn#4<&'0 int>:&'0 int[Ref:&'0 int[Var.n:int]]", "Fn#4<&'0 int>:&'0 int[Ref:&'0 int[Var.n:int]]", "Var.n:int")
 	typed(t, "", "out(n); let v = vec::<bool>(); push(&mut v, true); len(&v)", "Lib#40:()[Var.n:int]", "Let#1/1.v:()[Lib#2<bool>:Vec<bool>]", "Lib#3<bool>:()[Ref#1:&mut'0 Vec<bool>[Var#1.v:Vec<bool>] Bool#1:bool]", "Lib#5<bool>:int[Ref:&'0 Vec<bool>[Var#1.v:Vec<bool>]]")
 	typed(t, "", "let v: Vec<&int>; view(&v, 0, 1); at(&v, 2); n", "Lib#8<&'0 int>:Slice'0<&'0 int>[Ref:&'0 Vec<&'0 int>[Var#1.v:Vec<&'0 int>] Int:int Int#1:int]", "Lib#6<&'0 int>:&'0 &'0 int[Ref:&'0 Vec<&'0 int>[Var#1.v:Vec<&'0 int>] Int#2:int]", "Var.n:int")
 	typed(t, "", "T1::t(&n); k::T1::u::<int>(n, 1)", "Method#4<int>:int[Ref:&'0 int[Var.n:int]]", "Method#4/1<int>:int[Var.n:int Int#1:int]")

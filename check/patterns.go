@@ -19,7 +19,7 @@ func (b *body) match(n api.Node, wanted typ) (api.Node, typ) {
 		if t == never {
 			t = own
 		}
-		if wanted == none && t != never {
+		if t != never { // otherwise what is wanted, if anything is, still helps
 			wanted = t
 		}
 		out.Kids = append(out.Kids, with(arm, pattern, expression))
