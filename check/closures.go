@@ -4,10 +4,11 @@ import (
 	"slices"
 
 	"holdfast/api"
+	"holdfast/shapes"
 )
 
 // closure looks at an EClosure or ESpawn, whose body is a function of its own.
-func (b *body) closure(n api.Node) (api.Node, typ) {
+func (b *body) closure(n api.Node) (api.Node, shapes.Type) {
 	around := b.fn
 	kind := n.N
 	if n.Kind == api.ESpawn {
@@ -52,28 +53,28 @@ func (b *body) capture(inner *body, n api.Node) api.Node {
 		refuse(api.ErrTwice, n.At)
 	}
 	kid, t := b.named(n.At, known)
-	kid.Type = b.tell(t)
+	kid.Type = b.Tell(t)
 	if n.N > 0 {
-		t = b.ref(n.N == 2, t)
+		t = b.Ref(n.N == 2, t)
 	}
 	if inner.fn.Kind == api.FnSpawn && !b.has(b.fn.Sig.Gens, api.TrSend, t) {
 		refuse(api.ErrSend, n.At)
 	}
 	inner.names = append(inner.names, name{text: n.Name, captured: true, n: len(inner.env)})
 	inner.env = append(inner.env, t)
-	inner.fn.Env = append(inner.fn.Env, b.tell(t))
-	return api.Node{Kind: api.ECapture, At: n.At, N: n.N, Kids: []api.Node{kid}, Type: b.tell(t)}
+	inner.fn.Env = append(inner.fn.Env, b.Tell(t))
+	return api.Node{Kind: api.ECapture, At: n.At, N: n.N, Kids: []api.Node{kid}, Type: b.Tell(t)}
 }
 
 // begin gives a closure its variables, of which the first one is what it has captured, and its signature.
 func (b *body) begin(params []api.Node, result api.Node) {
-	self := b.tuple(b.env)
+	self := b.Tuple(b.env)
 	if b.fn.Kind == api.FnFn || b.fn.Kind == api.FnMut {
-		self = b.ref(b.fn.Kind == api.FnMut, self)
+		self = b.Ref(b.fn.Kind == api.FnMut, self)
 	}
-	first := b.tell(self)
+	first := b.Tell(self)
 	lives := countLives(&first, 0)
-	b.vars = []typ{self}
+	b.vars = []shapes.Type{self}
 	b.fn.Vars = []api.Local{{Mut: true, Type: first}}
 	for _, param := range params {
 		if _, twice := b.seen(param.Name); twice {
@@ -82,8 +83,8 @@ func (b *body) begin(params []api.Node, result api.Node) {
 		b.variable(param.Name, param.M == 1, b.written(param.Kids[0], true))
 	}
 	b.out = b.written(result, true)
-	b.fn.Sig.Lives, b.fn.Sig.Out = lives, b.tell(b.out)
-	b.fn.Sig.Ins = b.tellAll(b.vars)
+	b.fn.Sig.Lives, b.fn.Sig.Out = lives, b.Tell(b.out)
+	b.fn.Sig.Ins = b.TellAll(b.vars)
 	countLives(&b.fn.Sig.Ins[0], 0)
 }
 
@@ -100,9 +101,9 @@ func countLives(t *api.Type, count int) int {
 }
 
 // typeOfClosure is the type of a closure whose function has its signature, or of the handle of a thread.
-func (b *body) typeOfClosure() typ {
+func (b *body) typeOfClosure() shapes.Type {
 	if b.fn.Kind == api.FnSpawn {
-		return b.shaped(api.TyLib, api.LyHandle, b.out)
+		return b.Shaped(api.TyLib, api.LyHandle, b.out)
 	}
-	return b.shaped(api.TyFn, b.fn.Kind, append(slices.Clone(b.vars[1:]), b.out)...)
+	return b.Shaped(api.TyFn, b.fn.Kind, append(slices.Clone(b.vars[1:]), b.out)...)
 }

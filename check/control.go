@@ -1,47 +1,50 @@
 package check
 
-import "holdfast/api"
+import (
+	"holdfast/api"
+	"holdfast/shapes"
+)
 
 // control looks at an expression that says where to go on, or at a statement.
-func (b *body) control(n api.Node, wanted typ) (api.Node, typ) {
+func (b *body) control(n api.Node, wanted shapes.Type) (api.Node, shapes.Type) {
 	switch n.Kind {
 	case api.EIf:
 		return b.choice(n, wanted)
 	case api.EWhile:
-		condition, _ := b.value(n.Kids[0], truth)
+		condition, _ := b.value(n.Kids[0], shapes.Bool)
 		block, _ := b.loop(n.Kids[1])
-		return with(n, condition, block), empty
+		return with(n, condition, block), shapes.Empty
 	case api.ELoop:
 		block, breaks := b.loop(n.Kids[0])
 		if breaks == 0 {
-			return with(n, block), never
+			return with(n, block), shapes.Never
 		}
-		return with(n, block), empty
+		return with(n, block), shapes.Empty
 	case api.EBreak, api.ENext:
 		b.leave(n)
-		return n, never
+		return n, shapes.Never
 	case api.EReturn:
-		return b.giveBack(n), never
+		return b.giveBack(n), shapes.Never
 	case api.EPanic:
-		return n, never
+		return n, shapes.Never
 	case api.ELet:
-		return b.let(n), empty
+		return b.let(n), shapes.Empty
 	}
 	return b.block(n, wanted)
 }
 
-func (b *body) choice(n api.Node, wanted typ) (api.Node, typ) {
-	condition, _ := b.value(n.Kids[0], truth)
+func (b *body) choice(n api.Node, wanted shapes.Type) (api.Node, shapes.Type) {
+	condition, _ := b.value(n.Kids[0], shapes.Bool)
 	if len(n.Kids) == 2 {
-		block, _ := b.look(n.Kids[1], empty)
-		return with(n, condition, block), empty
+		block, _ := b.look(n.Kids[1], shapes.Empty)
+		return with(n, condition, block), shapes.Empty
 	}
 	first, t := b.look(n.Kids[1], wanted)
-	if t != never { // otherwise what is wanted, if anything is, still helps
+	if t != shapes.Never { // otherwise what is wanted, if anything is, still helps
 		wanted = t
 	}
 	second, other := b.look(n.Kids[2], wanted)
-	if t == never {
+	if t == shapes.Never {
 		t = other
 	}
 	return with(n, condition, first, second), t
@@ -50,7 +53,7 @@ func (b *body) choice(n api.Node, wanted typ) (api.Node, typ) {
 // loop looks at the block of a loop, and answers how many EBreaks are of it.
 func (b *body) loop(n api.Node) (api.Node, int) {
 	b.loops = append(b.loops, 0)
-	block, _ := b.look(n, empty)
+	block, _ := b.look(n, shapes.Empty)
 	last := len(b.loops) - 1
 	breaks := b.loops[last]
 	b.loops = b.loops[:last]
@@ -69,7 +72,7 @@ func (b *body) leave(n api.Node) {
 
 func (b *body) giveBack(n api.Node) api.Node {
 	if len(n.Kids) == 0 {
-		if b.out != empty {
+		if b.out != shapes.Empty {
 			refuse(api.ErrType, n.At)
 		}
 		return n
@@ -79,22 +82,22 @@ func (b *body) giveBack(n api.Node) api.Node {
 }
 
 // block looks at the statements of a block, whose names are in sight up to its end.
-func (b *body) block(n api.Node, wanted typ) (api.Node, typ) {
+func (b *body) block(n api.Node, wanted shapes.Type) (api.Node, shapes.Type) {
 	names := len(b.names)
 	var kids []api.Node
-	t, goes := empty, false
+	t, goes := shapes.Empty, false
 	for i, statement := range n.Kids {
 		if n.N == 1 && i == len(n.Kids)-1 {
 			statement, t = b.look(statement, wanted)
 		} else {
-			statement, _ = b.look(statement, none)
+			statement, _ = b.look(statement, shapes.None)
 			goes = goes || goesElsewhere(statement)
 		}
 		kids = append(kids, statement)
 	}
 	b.names = b.names[:names]
 	if goes {
-		t = never
+		t = shapes.Never
 	}
 	return with(n, kids...), t
 }
@@ -111,7 +114,7 @@ func (b *body) let(n api.Node) api.Node {
 	if n.N == 0 {
 		refuse(api.ErrGuess, n.At)
 	}
-	t, kids := none, n.Kids
+	t, kids := shapes.None, n.Kids
 	if n.N&1 != 0 {
 		t, kids = b.written(kids[0], false), kids[1:]
 	}

@@ -4,15 +4,16 @@ import (
 	"slices"
 
 	"holdfast/api"
+	"holdfast/shapes"
 )
 
 // expression looks at an expression, whatever type it turns out to have. Its typed node lacks its type as yet.
-func (b *body) expression(n api.Node, wanted typ) (api.Node, typ) {
+func (b *body) expression(n api.Node, wanted shapes.Type) (api.Node, shapes.Type) {
 	switch n.Kind {
 	case api.EInt:
-		return n, number
+		return n, shapes.Int
 	case api.EBool:
-		return n, truth
+		return n, shapes.Bool
 	case api.ETuple:
 		return b.tupleOf(n, wanted)
 	case api.EPath:
@@ -45,17 +46,17 @@ func with(n api.Node, kids ...api.Node) api.Node {
 	return n
 }
 
-func (b *body) tupleOf(n api.Node, wanted typ) (api.Node, typ) {
-	parts := slices.Repeat([]typ{none}, len(n.Kids))
-	if s, ok := b.is(api.TyTuple, wanted); ok && len(s.args) == len(parts) {
-		parts = s.args
+func (b *body) tupleOf(n api.Node, wanted shapes.Type) (api.Node, shapes.Type) {
+	parts := slices.Repeat([]shapes.Type{shapes.None}, len(n.Kids))
+	if s, ok := b.Is(api.TyTuple, wanted); ok && len(s.Args) == len(parts) {
+		parts = s.Args
 	}
 	kids, types := b.values(n.Kids, parts)
-	return with(n, kids...), b.tuple(types)
+	return with(n, kids...), b.Tuple(types)
 }
 
-func (b *body) field(n api.Node) (api.Node, typ) {
-	kid, t := b.value(n.Kids[0], none)
+func (b *body) field(n api.Node) (api.Node, shapes.Type) {
+	kid, t := b.value(n.Kids[0], shapes.None)
 	if n.Name == "" {
 		return with(n, kid), b.tuplePart(n, kid, t)
 	}
@@ -64,26 +65,26 @@ func (b *body) field(n api.Node) (api.Node, typ) {
 	return with(n, kid), of
 }
 
-func (b *body) tuplePart(n, kid api.Node, t typ) typ {
-	s, ok := b.is(api.TyTuple, t)
+func (b *body) tuplePart(n, kid api.Node, t shapes.Type) shapes.Type {
+	s, ok := b.Is(api.TyTuple, t)
 	if !ok {
 		refuse(api.ErrType, kid.At)
 	}
-	if n.N >= len(s.args) {
+	if n.N >= len(s.Args) {
 		refuse(api.ErrName, n.At)
 	}
-	return s.args[n.N]
+	return s.Args[n.N]
 }
 
-func (b *body) structPart(n, kid api.Node, t typ) (int, typ) {
-	s, ok := b.is(api.TyData, t)
-	if !ok || b.datas[s.n].Enum {
+func (b *body) structPart(n, kid api.Node, t shapes.Type) (int, shapes.Type) {
+	s, ok := b.Is(api.TyData, t)
+	if !ok || b.Datas[s.N].Enum {
 		refuse(api.ErrType, kid.At)
 	}
-	data := b.datas[s.n]
+	data := b.Datas[s.N]
 	part := partNamed(data, n)
 	b.mustSee(data, part, n.At)
-	return part, b.put(b.of(data.Cases[0].Parts[part].Type), s.args)
+	return part, b.Put(b.Of(data.Cases[0].Parts[part].Type), s.Args)
 }
 
 // partNamed is which part of a struct has the name of a node.
@@ -102,71 +103,71 @@ func (b *body) mustSee(data api.DataDef, part, at int) {
 	}
 }
 
-func (b *body) deref(n api.Node) (api.Node, typ) {
-	kid, t := b.value(n.Kids[0], none)
-	s := b.shapes[t]
+func (b *body) deref(n api.Node) (api.Node, shapes.Type) {
+	kid, t := b.value(n.Kids[0], shapes.None)
+	s := b.Shape(t)
 	switch {
-	case s.kind == api.TyRef, s.kind == api.TyMut, s.kind == api.TyLib && s.n == api.LyBox:
-		return with(n, kid), s.args[0]
+	case s.Kind == api.TyRef, s.Kind == api.TyMut, s.Kind == api.TyLib && s.N == api.LyBox:
+		return with(n, kid), s.Args[0]
 	}
 	refuse(api.ErrType, kid.At)
-	return api.Node{}, none
+	return api.Node{}, shapes.None
 }
 
-func (b *body) reference(n api.Node, wanted typ) (api.Node, typ) {
+func (b *body) reference(n api.Node, wanted shapes.Type) (api.Node, shapes.Type) {
 	kind := api.TyRef
 	if n.N == 1 {
 		kind = api.TyMut
 	}
-	to := none
-	if s, ok := b.is(kind, wanted); ok {
-		to = s.args[0]
+	to := shapes.None
+	if s, ok := b.Is(kind, wanted); ok {
+		to = s.Args[0]
 	}
 	kid, t := b.value(n.Kids[0], to)
-	return with(n, kid), b.shaped(kind, 0, t)
+	return with(n, kid), b.Shaped(kind, 0, t)
 }
 
 // operation looks at an expression with an operator.
-func (b *body) operation(n api.Node) (api.Node, typ) {
+func (b *body) operation(n api.Node) (api.Node, shapes.Type) {
 	if n.Name == "==" || n.Name == "!=" {
 		return b.equation(n)
 	}
 	of, gives := operands(n)
-	wanted := slices.Repeat([]typ{of}, len(n.Kids))
+	wanted := slices.Repeat([]shapes.Type{of}, len(n.Kids))
 	kids, _ := b.values(n.Kids, wanted)
 	return with(n, kids...), gives
 }
 
 // operands says of what type the operands of an operator are, and of what type is what it gives.
-func operands(n api.Node) (of, gives typ) {
+func operands(n api.Node) (of, gives shapes.Type) {
 	if n.Kind == api.EAnd || n.Kind == api.EOr {
-		return truth, truth
+		return shapes.Bool, shapes.Bool
 	}
 	switch n.Name {
 	case "!":
-		return truth, truth
+		return shapes.Bool, shapes.Bool
 	case "<", "<=", ">", ">=":
-		return number, truth
+		return shapes.Int, shapes.Bool
 	}
-	return number, number
+	return shapes.Int, shapes.Int
 }
 
-func (b *body) equation(n api.Node) (api.Node, typ) {
-	first, t := b.value(n.Kids[0], none)
-	if t != number && t != truth {
+func (b *body) equation(n api.Node) (api.Node, shapes.Type) {
+	first, t := b.value(n.Kids[0], shapes.None)
+	if t != shapes.Int && t != shapes.Bool {
 		refuse(api.ErrType, first.At)
 	}
 	second, _ := b.value(n.Kids[1], t)
-	return with(n, first, second), truth
+	return with(n, first, second), shapes.Bool
 }
 
-func (b *body) assign(n api.Node) (api.Node, typ) {
-	place, t := b.look(n.Kids[0], none)
+func (b *body) assign(n api.Node) (api.Node, shapes.Type) {
+	place, t := b.look(n.Kids[0], shapes.None)
 	if !isPlace(place) {
 		refuse(api.ErrPlace, place.At)
 	}
 	value, _ := b.value(n.Kids[1], t)
-	return with(n, place, value), empty
+	return with(n, place, value), shapes.Empty
 }
 
 func isPlace(n api.Node) bool {

@@ -4,6 +4,7 @@ import (
 	"slices"
 
 	"holdfast/api"
+	"holdfast/shapes"
 )
 
 // filling is a signature whose type parameters are being found out. At: where its node stands.
@@ -11,15 +12,15 @@ type filling struct {
 	*body
 	at    int
 	gens  []api.Gen
-	ins   []typ
-	out   typ
-	known []typ // of each type parameter the type that it has, or none
+	ins   []shapes.Type
+	out   shapes.Type
+	known []shapes.Type // of each type parameter the type that it has, or none
 }
 
 // newFilling begins to fill a signature, by the types that are written, or else by what is wanted.
-func (b *body) newFilling(at int, sig api.Sig, written []api.Node, wanted typ) *filling {
-	f := &filling{body: b, at: at, gens: sig.Gens, ins: b.ofAll(sig.Ins), out: b.of(sig.Out)}
-	f.known = slices.Repeat([]typ{none}, len(sig.Gens))
+func (b *body) newFilling(at int, sig api.Sig, written []api.Node, wanted shapes.Type) *filling {
+	f := &filling{body: b, at: at, gens: sig.Gens, ins: b.OfAll(sig.Ins), out: b.Of(sig.Out)}
+	f.known = slices.Repeat([]shapes.Type{shapes.None}, len(sig.Gens))
 	switch {
 	case len(written) > 0:
 		if len(written) != len(f.known) {
@@ -28,7 +29,7 @@ func (b *body) newFilling(at int, sig api.Sig, written []api.Node, wanted typ) *
 		for i, n := range written {
 			f.known[i] = b.written(n, false)
 		}
-	case wanted != none && !f.becomes(f.out, wanted):
+	case wanted != shapes.None && !f.becomes(f.out, wanted):
 		refuse(api.ErrType, at)
 	}
 	return f
@@ -38,10 +39,10 @@ func (b *body) newFilling(at int, sig api.Sig, written []api.Node, wanted typ) *
 func (f *filling) value(n api.Node, param int) api.Node {
 	in := f.ins[param]
 	if f.isKnown(in) {
-		typed, _ := f.body.value(n, f.put(in, f.known))
+		typed, _ := f.body.value(n, f.Put(in, f.known))
 		return typed
 	}
-	typed, t := f.body.value(n, none)
+	typed, t := f.body.value(n, shapes.None)
 	if !f.becomes(in, t) {
 		refuse(api.ErrType, typed.At)
 	}
@@ -49,28 +50,28 @@ func (f *filling) value(n api.Node, param int) api.Node {
 }
 
 // isKnown says whether all type parameters of a type are known.
-func (f *filling) isKnown(t typ) bool {
-	s := f.shapes[t]
-	if s.kind == api.TyParam {
-		return f.known[s.n] != none
+func (f *filling) isKnown(t shapes.Type) bool {
+	s := f.Shape(t)
+	if s.Kind == api.TyParam {
+		return f.known[s.N] != shapes.None
 	}
-	return !slices.ContainsFunc(s.args, func(arg typ) bool { return !f.isKnown(arg) })
+	return !slices.ContainsFunc(s.Args, func(arg shapes.Type) bool { return !f.isKnown(arg) })
 }
 
 // becomes matches a type with another one: type parameters that are not known become what stands there.
-func (f *filling) becomes(t, other typ) bool {
-	s, o := f.shapes[t], f.shapes[other]
-	if s.kind == api.TyParam {
-		if f.known[s.n] == none {
-			f.known[s.n] = other
+func (f *filling) becomes(t, other shapes.Type) bool {
+	s, o := f.Shape(t), f.Shape(other)
+	if s.Kind == api.TyParam {
+		if f.known[s.N] == shapes.None {
+			f.known[s.N] = other
 		}
-		return f.known[s.n] == other
+		return f.known[s.N] == other
 	}
-	if s.kind != o.kind || s.n != o.n || len(s.args) != len(o.args) {
+	if s.Kind != o.Kind || s.N != o.N || len(s.Args) != len(o.Args) {
 		return false
 	}
-	for i := range s.args {
-		if !f.becomes(s.args[i], o.args[i]) {
+	for i := range s.Args {
+		if !f.becomes(s.Args[i], o.Args[i]) {
 			return false
 		}
 	}
@@ -78,8 +79,8 @@ func (f *filling) becomes(t, other typ) bool {
 }
 
 // done answers the node with what its type parameters are, and the type of the result, once all values are there.
-func (f *filling) done(n api.Node) (api.Node, typ) {
-	if slices.Contains(f.known, none) {
+func (f *filling) done(n api.Node) (api.Node, shapes.Type) {
+	if slices.Contains(f.known, shapes.None) {
 		refuse(api.ErrGuess, f.at)
 	}
 	for i, gen := range f.gens {
@@ -89,10 +90,10 @@ func (f *filling) done(n api.Node) (api.Node, typ) {
 			}
 		}
 	}
-	t := f.put(f.out, f.known)
-	if f.tooBig(t) { // ahead of telling what it is made of, which might have no end
+	t := f.Put(f.out, f.known)
+	if f.TooBig(t) { // ahead of telling what it is made of, which might have no end
 		refuse(api.ErrMany, f.at)
 	}
-	n.Args = f.tellAll(f.known)
+	n.Args = f.TellAll(f.known)
 	return n, t
 }

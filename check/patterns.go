@@ -5,21 +5,22 @@ import (
 
 	"holdfast/api"
 	"holdfast/cover"
+	"holdfast/shapes"
 )
 
-func (b *body) match(n api.Node, wanted typ) (api.Node, typ) {
-	matched, of := b.value(n.Kids[0], none)
+func (b *body) match(n api.Node, wanted shapes.Type) (api.Node, shapes.Type) {
+	matched, of := b.value(n.Kids[0], shapes.None)
 	out := with(n, matched)
-	t := never
+	t := shapes.Never
 	for _, arm := range n.Kids[1:] {
 		names := len(b.names)
 		pattern := b.pattern(arm.Kids[0], of, names)
 		expression, own := b.look(arm.Kids[1], wanted)
 		b.names = b.names[:names]
-		if t == never {
+		if t == shapes.Never {
 			t = own
 		}
-		if t != never { // otherwise what is wanted, if anything is, still helps
+		if t != shapes.Never { // otherwise what is wanted, if anything is, still helps
 			wanted = t
 		}
 		out.Kids = append(out.Kids, with(arm, pattern, expression))
@@ -29,7 +30,7 @@ func (b *body) match(n api.Node, wanted typ) (api.Node, typ) {
 }
 
 // mustCover refuses a match with an arm that is idle, or that leaves a value.
-func (b *body) mustCover(match api.Node, of typ) {
+func (b *body) mustCover(match api.Node, of shapes.Type) {
 	arms := match.Kids[1:]
 	tests := 0
 	var pats []api.Pat
@@ -40,7 +41,7 @@ func (b *body) mustCover(match api.Node, of typ) {
 	if tests > api.MaxTests {
 		refuse(api.ErrMany, match.At)
 	}
-	idle, all := cover.Arms(b.given, b.tell(of), pats)
+	idle, all := cover.Arms(b.given, b.Tell(of), pats)
 	if len(idle) > 0 {
 		refuse(api.ErrIdle, arms[idle[0]].At)
 	}
@@ -74,21 +75,21 @@ func patOf(n api.Node) api.Pat {
 }
 
 // pattern looks at a pattern of a type. From so many names on those in sight are of the arm.
-func (b *body) pattern(n api.Node, of typ, names int) api.Node {
-	if b.tooBig(of) {
+func (b *body) pattern(n api.Node, of shapes.Type, names int) api.Node {
+	if b.TooBig(of) {
 		refuse(api.ErrMany, n.At)
 	}
-	n.Type = b.tell(of)
+	n.Type = b.Tell(of)
 	switch n.Kind {
 	case api.PInt:
-		mustBe(of == number, api.ErrType, n.At)
+		mustBe(of == shapes.Int, api.ErrType, n.At)
 	case api.PBool:
-		mustBe(of == truth, api.ErrType, n.At)
+		mustBe(of == shapes.Bool, api.ErrType, n.At)
 	case api.PTuple:
-		s, ok := b.is(api.TyTuple, of)
+		s, ok := b.Is(api.TyTuple, of)
 		mustBe(ok, api.ErrType, n.At)
-		mustBe(len(s.args) == len(n.Kids), api.ErrCount, n.At)
-		n.Kids = b.patterns(n.Kids, s.args, names)
+		mustBe(len(s.Args) == len(n.Kids), api.ErrCount, n.At)
+		n.Kids = b.patterns(n.Kids, s.Args, names)
 	case api.PBind:
 		return b.bind(n, of, names)
 	case api.PCase:
@@ -103,7 +104,7 @@ func mustBe(ok bool, kind api.Errno, at int) {
 	}
 }
 
-func (b *body) patterns(nodes []api.Node, of []typ, names int) []api.Node {
+func (b *body) patterns(nodes []api.Node, of []shapes.Type, names int) []api.Node {
 	var out []api.Node
 	for i, n := range nodes {
 		out = append(out, b.pattern(n, of[i], names))
@@ -112,12 +113,12 @@ func (b *body) patterns(nodes []api.Node, of []typ, names int) []api.Node {
 }
 
 // bind makes the variable of a name in a pattern.
-func (b *body) bind(n api.Node, of typ, names int) api.Node {
+func (b *body) bind(n api.Node, of shapes.Type, names int) api.Node {
 	if slices.ContainsFunc(b.names[names:], func(known name) bool { return known.text == n.Name }) {
 		refuse(api.ErrTwice, n.At)
 	}
 	if n.N > 0 {
-		of = b.ref(n.N == 2, of)
+		of = b.Ref(n.N == 2, of)
 	}
 	mut := n.M == 1
 	n.M = n.N
@@ -126,18 +127,18 @@ func (b *body) bind(n api.Node, of typ, names int) api.Node {
 }
 
 // variant looks at a pattern of an enum.
-func (b *body) variant(n api.Node, of typ, names int) api.Node {
+func (b *body) variant(n api.Node, of shapes.Type, names int) api.Node {
 	item, behind := b.found(n)
-	mustBe(behind != "" && item.Sort == api.SortData && b.datas[item.N].Enum, api.ErrSort, n.At)
-	data := b.datas[item.N]
+	mustBe(behind != "" && item.Sort == api.SortData && b.Datas[item.N].Enum, api.ErrSort, n.At)
+	data := b.Datas[item.N]
 	n.N, n.M = item.N, variantNamed(data, behind, n.At)
-	s, ok := b.is(api.TyData, of)
-	mustBe(ok && s.n == item.N, api.ErrType, n.At)
+	s, ok := b.Is(api.TyData, of)
+	mustBe(ok && s.N == item.N, api.ErrType, n.At)
 	parts := data.Cases[n.M].Parts
 	mustBe(len(parts) == len(n.Kids), api.ErrCount, n.At)
-	var types []typ
+	var types []shapes.Type
 	for _, part := range parts {
-		types = append(types, b.put(b.of(part.Type), s.args))
+		types = append(types, b.Put(b.Of(part.Type), s.Args))
 	}
 	n.Kids = b.patterns(n.Kids, types, names)
 	return n

@@ -20,8 +20,12 @@ type asker struct {
 	gens    []api.Gen
 }
 
-// yes goes through all questions that a question leads to, each of them once. They are asked by their texts, so that one that leads back to itself comes to an end.
 func (a asker) yes(q question) bool {
+	return through(q, a.leads)
+}
+
+// through goes through all questions that a question leads to, each of them once. They are asked by their texts, so that one that leads back to itself comes to an end.
+func through(q question, leadsTo func(question) ([]question, bool)) bool {
 	asked := map[string]struct{}{}
 	open := []question{q}
 	for len(open) > 0 {
@@ -35,7 +39,7 @@ func (a asker) yes(q question) bool {
 			continue
 		}
 		asked[text] = struct{}{}
-		leads, ok := a.leads(next)
+		leads, ok := leadsTo(next)
 		if !ok || len(asked) > api.MaxAsk {
 			return false
 		}
