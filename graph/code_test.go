@@ -120,15 +120,17 @@ func TestNothingThere(t *testing.T) {
 	}
 }
 
-// P2: what is handed in is not changed.
-func TestNothingChanged(t *testing.T) {
-	p, again := lowered(t, text), lowered(t, text)
-	for n := range p.Fns {
-		if got := Check(p, n); got != -1 {
-			t.Errorf("function %d: %d", n, got)
+// P2, P21: what is lowered is well-formed, and is not changed when it is looked at.
+func TestLoweredCode(t *testing.T) {
+	for _, written := range []string{text, busy} {
+		p, again := lowered(t, written), lowered(t, written)
+		for n := range p.Fns {
+			if got := Check(p, n); got != -1 {
+				t.Errorf("function %d: %d", n, got)
+			}
 		}
-	}
-	if !same(p, again) {
-		t.Error("the program is another one")
+		if !same(p, again) {
+			t.Error("the program is another one")
+		}
 	}
 }
