@@ -40,7 +40,7 @@ func (j *judge) isWell(i api.Instr) bool {
 		from := j.place(i.From)
 		return from != shapes.None && j.gives(i, j.Ref(i.Op == api.IMut, from))
 	case api.ITag:
-		return j.isEnum(j.place(i.From)) && j.gives(i, shapes.Int)
+		return j.IsEnum(j.place(i.From)) && j.gives(i, shapes.Int)
 	case api.ITuple:
 		args := j.operands(i)
 		return !slices.Contains(args, shapes.None) && j.gives(i, j.Tuple(args))
@@ -104,49 +104,5 @@ func (j *judge) has(trait int, t shapes.Type) bool {
 
 // place is the type of a place, or none.
 func (j *judge) place(p api.Place) shapes.Type {
-	if !isOne(p.Local, len(j.locals)) {
-		return shapes.None
-	}
-	t := j.locals[p.Local]
-	for _, step := range p.Steps {
-		if t = j.step(t, step); t == shapes.None {
-			break
-		}
-	}
-	return t
-}
-
-// step is the type of what a step leads to, or none.
-func (j *judge) step(t shapes.Type, step api.Step) shapes.Type {
-	s := j.Shape(t)
-	switch {
-	case step.Kind == api.StepDeref && leads(s):
-		return s.Args[0]
-	case step.Kind == api.StepField && s.Kind == api.TyTuple && isOne(step.N, len(s.Args)):
-		return s.Args[step.N]
-	case step.Kind == api.StepField && s.Kind == api.TyData && !j.isEnum(t):
-		return j.part(s, 0, step.N)
-	case step.Kind == api.StepCase && j.isEnum(t):
-		return j.part(s, step.N, step.M)
-	}
-	return shapes.None
-}
-
-// leads says whether a StepDeref leads somewhere.
-func leads(s shapes.Shape) bool {
-	return s.Kind == api.TyRef || s.Kind == api.TyMut || s.Kind == api.TyLib && s.N == api.LyBox
-}
-
-func (j *judge) isEnum(t shapes.Type) bool {
-	s, ok := j.Is(api.TyData, t)
-	return ok && j.Datas[s.N].Enum
-}
-
-// part is the type of a part of a data type, or none.
-func (j *judge) part(s shapes.Shape, variant, part int) shapes.Type {
-	cases := j.Datas[s.N].Cases
-	if !isOne(variant, len(cases)) || !isOne(part, len(cases[variant].Parts)) {
-		return shapes.None
-	}
-	return j.Put(j.Of(cases[variant].Parts[part].Type), s.Args)
+	return j.Place(j.locals, p)
 }

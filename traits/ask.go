@@ -20,18 +20,14 @@ type asker struct {
 	gens    []api.Gen
 }
 
+// yes goes through all questions that a question leads to, each of them once. They are asked by their texts, so that one that leads back to itself comes to an end.
 func (a asker) yes(q question) bool {
-	return through(q, a.leads)
-}
-
-// through goes through all questions that a question leads to, each of them once. They are asked by their texts, so that one that leads back to itself comes to an end.
-func through(q question, leadsTo func(question) ([]question, bool)) bool {
 	asked := map[string]struct{}{}
 	open := []question{q}
 	for len(open) > 0 {
 		next := open[len(open)-1]
 		open = open[:len(open)-1]
-		if tooBig(next.t) { // ahead of its text, which might have no end
+		if TooBig(next.t) { // ahead of its text, which might have no end
 			return false
 		}
 		text := next.text()
@@ -39,7 +35,7 @@ func through(q question, leadsTo func(question) ([]question, bool)) bool {
 			continue
 		}
 		asked[text] = struct{}{}
-		leads, ok := leadsTo(next)
+		leads, ok := a.leads(next)
 		if !ok || len(asked) > api.MaxAsk {
 			return false
 		}
@@ -62,10 +58,6 @@ func writeType(b *strings.Builder, t api.Type) {
 		writeType(b, arg)
 	}
 	b.WriteString(")")
-}
-
-func tooBig(t api.Type) bool {
-	return countParts(t, api.MaxParts) > api.MaxParts
 }
 
 // countParts counts the parts of a type, but stops once there are more than enough.
