@@ -92,7 +92,10 @@ func variantNamed(data api.DataDef, called string, at int) int {
 
 // CaseSig is a variant, or a struct, as a signature that takes its parts.
 func CaseSig(data api.DataDef, number, variant int) api.Sig {
-	sig := api.Sig{Gens: make([]api.Gen, data.Gens), Out: api.Type{Kind: api.TyData, N: number}}
+	sig := api.Sig{Lives: data.Lives, Gens: make([]api.Gen, data.Gens), Out: api.Type{Kind: api.TyData, N: number}}
+	for n := range data.Lives {
+		sig.Out.Lives = append(sig.Out.Lives, n+1)
+	}
 	for n := range data.Gens {
 		sig.Out.Args = append(sig.Out.Args, api.Type{Kind: api.TyParam, N: n})
 	}

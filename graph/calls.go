@@ -23,9 +23,8 @@ func (j *judge) isOperation(i api.Instr) bool {
 	return i.N >= api.OLt && i.N <= api.OGe && j.takes(i, shapes.Int, shapes.Int) && j.gives(i, shapes.Bool)
 }
 
-// called is the signature of what an instruction calls or makes, if there is such a thing.
-func (j *judge) called(i api.Instr) (api.Sig, bool) {
-	p := j.program
+// Called is the signature of what an instruction calls or makes, if there is such a thing.
+func Called(p api.Program, i api.Instr) (api.Sig, bool) {
 	switch i.Op {
 	case api.ICall:
 		if isOne(i.N, len(p.Fns)) && p.Fns[i.N].Kind == api.FnPlain {

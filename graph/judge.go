@@ -45,7 +45,7 @@ func (j *judge) isWell(i api.Instr) bool {
 		args := j.operands(i)
 		return !slices.Contains(args, shapes.None) && j.gives(i, j.Tuple(args))
 	case api.ICall, api.ILib, api.IMethod, api.IMake:
-		sig, ok := j.called(i)
+		sig, ok := Called(j.program, i)
 		return ok && j.isCall(i, sig)
 	case api.IClos, api.ISpawn:
 		return isOne(i.N, len(j.program.Fns)) && j.isClosure(i, j.program.Fns[i.N])

@@ -4,6 +4,8 @@ import (
 	"slices"
 
 	"holdfast/api"
+	"holdfast/sets"
+	"holdfast/ways"
 )
 
 // change is what an instruction does with paths: those that it loses at first, those that are there even if it panics, those that are there if it does not.
@@ -24,7 +26,7 @@ func (c *code) changeOf(i api.Instr) change {
 	if i.Op == api.IPut {
 		out.put = c.paths.of(i.To)
 	}
-	if gives(i) {
+	if ways.Gives(i) {
 		out.given = c.paths.of(i.To)
 	}
 	return out
@@ -47,7 +49,7 @@ func (c *code) there() []state {
 		ahead[0].gain(c.paths.under(n + 1))
 	}
 	now := newState(len(c.paths.places))
-	settle(order, func(n int) []int {
+	sets.Settle(order, func(n int) []int {
 		if !ahead[n].isReached() {
 			return nil
 		}
@@ -55,11 +57,11 @@ func (c *code) there() []state {
 		now.lose(changes[n].lost)
 		now.gain(changes[n].put)
 		var changed []int
-		if c.panics[n] && ahead[c.Clean].meet(now) {
+		if c.Panics[n] && ahead[c.Clean].meet(now) {
 			changed = append(changed, c.Clean)
 		}
 		now.gain(changes[n].given)
-		for _, next := range c.behind(n) {
+		for _, next := range c.Behind(n) {
 			if ahead[next].meet(now) {
 				changed = append(changed, next)
 			}
@@ -83,7 +85,7 @@ func uses(i api.Instr) []int {
 	case api.IRet:
 		out = append(out, 0)
 	}
-	if gives(i) && len(i.To.Steps) > 0 {
+	if ways.Gives(i) && len(i.To.Steps) > 0 {
 		out = append(out, i.To.Local)
 	}
 	return out
@@ -101,41 +103,41 @@ func drops(i api.Instr) []int {
 }
 
 // wanted finds, ahead of each instruction, which locals an instruction may want before they are renewed.
-func (c *code) wanted(wants func(api.Instr) []int) []set {
-	ahead := make([]set, len(c.Code))
+func (c *code) wanted(wants func(api.Instr) []int) []sets.Set {
+	ahead := make([]sets.Set, len(c.Code))
 	from := make([][]int, len(c.Code)) // of each instruction those that lead to it
 	order := make([]int, len(c.Code))
 	for n := range c.Code {
-		ahead[n] = newSet(len(c.Vars))
-		for _, next := range c.behind(n) {
+		ahead[n] = sets.New(len(c.Vars))
+		for _, next := range c.Behind(n) {
 			from[next] = append(from[next], n)
 		}
-		if c.panics[n] {
+		if c.Panics[n] {
 			from[c.Clean] = append(from[c.Clean], n)
 		}
 		order[n] = n
 	}
 	slices.Reverse(order)
-	now := newSet(len(c.Vars))
-	settle(order, func(n int) []int {
+	now := sets.New(len(c.Vars))
+	sets.Settle(order, func(n int) []int {
 		i := c.Code[n]
 		clear(now)
-		for _, next := range c.behind(n) {
-			now.join(ahead[next])
+		for _, next := range c.Behind(n) {
+			now.Join(ahead[next])
 		}
-		if gives(i) && len(i.To.Steps) == 0 {
-			now.remove(i.To.Local)
+		if ways.Gives(i) && len(i.To.Steps) == 0 {
+			now.Remove(i.To.Local)
 		}
-		if c.panics[n] { // then what it would give does not come
-			now.join(ahead[c.Clean])
+		if c.Panics[n] { // then what it would give does not come
+			now.Join(ahead[c.Clean])
 		}
 		if i.Op == api.IEnd { // but what it ends has ended all the same
-			now.remove(i.N)
+			now.Remove(i.N)
 		}
 		for _, local := range wants(i) {
-			now.add(local)
+			now.Add(local)
 		}
-		if ahead[n].join(now) {
+		if ahead[n].Join(now) {
 			return from[n]
 		}
 		return nil

@@ -4,6 +4,7 @@ import (
 	"slices"
 
 	"holdfast/api"
+	"holdfast/ways"
 )
 
 // refusal is what is thrown at the first fault of a program.
@@ -27,7 +28,7 @@ func (c *code) look() {
 			j.operand(arg)
 		}
 		j.source(i)
-		if gives(i) {
+		if ways.Gives(i) {
 			j.target(i.To)
 		}
 	}
@@ -65,14 +66,14 @@ func (j judge) source(i api.Instr) {
 
 // target looks at the place to which something is given.
 func (j judge) target(to api.Place) {
-	if isDirect(to) {
+	if ways.IsDirect(to) {
 		found, _ := j.paths.along(to)
-		j.refuseIf(slices.ContainsFunc(found[:len(to.Steps)], j.now.hole.has), api.ErrHole)
+		j.refuseIf(slices.ContainsFunc(found[:len(to.Steps)], j.now.hole.Has), api.ErrHole)
 	} else {
 		j.refuseIf(j.hasHole(to), api.ErrHole)
 	}
 	if len(to.Steps) == 0 {
-		again := !j.Vars[to.Local].Mut && slices.ContainsFunc(j.paths.under(to.Local), j.now.init.has)
+		again := !j.Vars[to.Local].Mut && slices.ContainsFunc(j.paths.under(to.Local), j.now.init.Has)
 		j.refuseIf(again, api.ErrAgain)
 	} else {
 		j.refuseIf(!j.mayChange(to), api.ErrMut)
@@ -81,13 +82,13 @@ func (j judge) target(to api.Place) {
 
 // hasHole says whether not all of a place is there.
 func (j judge) hasHole(place api.Place) bool {
-	return slices.ContainsFunc(j.paths.around(place), j.now.hole.has)
+	return slices.ContainsFunc(j.paths.around(place), j.now.hole.Has)
 }
 
 // mayMove says whether what stands at a place may be moved away: nobody misses it there.
 func (j judge) mayMove(place api.Place) bool {
-	for from, step := range j.walk(place) {
-		if isDeref(step) || from.Kind == api.TyData && j.Datas[from.N].Drop >= 0 {
+	for from, step := range j.Walk(place) {
+		if ways.IsDeref(step) || j.HasDrop(from) {
 			return false
 		}
 	}
@@ -97,11 +98,11 @@ func (j judge) mayMove(place api.Place) bool {
 // mayChange says whether what stands at a place may be changed: by its owner, or by a mut reference that leads there.
 func (j judge) mayChange(place api.Place) bool {
 	may := j.Vars[place.Local].Mut
-	for from, step := range j.walk(place) {
+	for from, step := range j.Walk(place) {
 		switch {
-		case isDeref(step) && from.Kind == api.TyRef:
+		case ways.IsDeref(step) && from.Kind == api.TyRef:
 			return false
-		case isDeref(step) && from.Kind == api.TyMut:
+		case ways.IsDeref(step) && from.Kind == api.TyMut:
 			may = true
 		}
 	}

@@ -1,9 +1,8 @@
 package owns
 
 import (
-	"slices"
-
 	"holdfast/api"
+	"holdfast/ways"
 )
 
 // paths are the places that are told apart: each local, and what direct places that are given or moved begin with. They have the numbers in which they have come up.
@@ -26,7 +25,7 @@ func pathsOf(f api.FnDef) *paths {
 		all.grow(api.Place{Local: n})
 	}
 	for _, i := range f.Code {
-		if gives(i) {
+		if ways.Gives(i) {
 			all.add(i.To)
 		}
 		for _, arg := range i.Args {
@@ -46,7 +45,7 @@ func (a *paths) grow(place api.Place) int {
 
 // add adds what a place begins with, if it is direct.
 func (a *paths) add(place api.Place) {
-	if !isDirect(place) {
+	if !ways.IsDirect(place) {
 		return
 	}
 	at := place.Local
@@ -61,19 +60,11 @@ func (a *paths) add(place api.Place) {
 	}
 }
 
-func isDeref(step api.Step) bool {
-	return step.Kind == api.StepDeref
-}
-
-func isDirect(place api.Place) bool {
-	return !slices.ContainsFunc(place.Steps, isDeref)
-}
-
 // along are the paths with which a place's head begins, the shortest one first. The head itself need not be among them.
 func (a *paths) along(place api.Place) (found []int, hasHead bool) {
 	found = []int{place.Local}
 	for k, step := range place.Steps {
-		if isDeref(step) {
+		if ways.IsDeref(step) {
 			break
 		}
 		next, ok := a.longer[branch{found[k], step}]
@@ -96,7 +87,7 @@ func (a *paths) under(path int) []int {
 
 // of are the paths that begin with a place, if it is direct.
 func (a *paths) of(place api.Place) []int {
-	if !isDirect(place) {
+	if !ways.IsDirect(place) {
 		return nil
 	}
 	found, hasHead := a.along(place)

@@ -92,7 +92,7 @@ func (t *Types) OfAll(told []api.Type) []Type {
 func (t *Types) Tell(known Type) api.Type {
 	s := t.shapes[known]
 	out := api.Type{Kind: s.Kind, N: s.N}
-	if lives := t.livesOf(s); lives > 0 {
+	if lives := t.Lives(s); lives > 0 {
 		out.Lives = make([]int, lives)
 	}
 	out.Args = t.TellAll(s.Args)
@@ -108,8 +108,8 @@ func (t *Types) TellAll(known []Type) []api.Type {
 	return out
 }
 
-// livesOf is how many lifetimes a type has, those of its Args aside.
-func (t *Types) livesOf(s Shape) int {
+// Lives is how many lifetimes a type has, those of its Args aside.
+func (t *Types) Lives(s Shape) int {
 	switch {
 	case s.Kind == api.TyRef, s.Kind == api.TyMut, s.Kind == api.TyFn, s.Kind == api.TyLib && s.N >= api.LySlice:
 		return 1

@@ -1,4 +1,4 @@
-package owns
+package sets
 
 import (
 	"slices"

@@ -1,4 +1,4 @@
-package owns
+package sets
 
 // queue holds what is still to be looked at, each thing once.
 type queue[T comparable] struct {
@@ -31,8 +31,8 @@ func (q *queue[T]) take() (first T, ok bool) {
 	return first, true
 }
 
-// settle looks at things in their order, then at those again of which a look says that something has changed for them, till nothing changes.
-func settle[T comparable](things []T, look func(T) []T) {
+// Settle looks at things in their order, then at those again of which a look says that something has changed for them, till nothing changes.
+func Settle[T comparable](things []T, look func(T) []T) {
 	q := newQueue[T]()
 	q.add(things...)
 	for {
