@@ -9,25 +9,44 @@ import (
 	"holdfast/api"
 )
 
-// growerItems are what made functions may use. G, K, X and D tell it when they are dropped, and use what they have lent.
-const growerItems = `struct D { v: int } impl Drop for D { fn drop(self: &mut D) { out((*self).v); } }
-struct P { v: int } impl Drop for P { fn drop(self: &mut P) { if (*self).v > 5 { panic } } }
-struct G<'a> { r: &'a int } impl<'a> Drop for G<'a> { fn drop(self: &mut G<'a>) { out(*(*self).r); } }
-struct K<'a> { r: &'a mut int } impl<'a> Drop for K<'a> { fn drop(self: &mut K<'a>) { *(*self).r = *(*self).r + 1; } }
-copy struct H<'a> { r: &'a int, k: int }
-struct M<'a> { r: &'a mut int, h: H<'a> }
-struct W<T> { x: T } struct X<T> { x: T } impl<T> Drop for X<T> { fn drop(self: &mut X<T>) { out(90); } }
-enum E<'a> { A(int), R(&'a int), M(&'a mut int), B(Box<E<'a>>), D(D) }
-struct C<'a> { o: RefCell<Option<&'a C<'a>>>, v: int } struct Z<'a> { o: Cell<Option<&'a Z<'a>>>, v: int } impl<'a> Drop for Z<'a> { fn drop(self: &mut Z<'a>) { match get(&(*self).o) { Option::Some(z) => { out((*z).v); }, Option::None => { } } } }
-struct N { v: D, link: RefCell<Option<Rc<N>>> }
-trait Tr { fn see(self: &Self) -> &int; fn edit(self: &mut Self) -> &mut int; fn end(self: Self) -> int; }
-impl Tr for int { fn see(self: &int) -> &int { self } fn edit(self: &mut int) -> &mut int { self } fn end(self: int) -> int { self } }
-impl Tr for D { fn see(self: &D) -> &int { &(*self).v } fn edit(self: &mut D) -> &mut int { &mut (*self).v } fn end(self: D) -> int { self.v } }
-impl<T: Tr> Tr for Box<T> { fn see(self: &Box<T>) -> &int { Tr::see(&**self) } fn edit(self: &mut Box<T>) -> &mut int { Tr::edit(&mut **self) } fn end(self: Box<T>) -> int { Tr::end(unbox(self)) } }
-fn eat<T>(x: T) { } fn id<T>(x: T) -> T { x } fn fst<A, B>(a: A, b: B) -> A { a }
-fn one<'a, T>(c: bool, a: &'a T, b: &'a T) -> &'a T { if c { a } else { b } }
-fn each<'a, T>(c: bool, a: &'a mut T, b: &'a mut T) -> &'a mut T { if c { a } else { b } }
-`
+// growerItems are what made functions may use, a line each, behind the names by which they are used. G, K, X, Z, D and P do something when they are dropped, with what they have lent too.
+const growerItems = `D: struct D { v: int } impl Drop for D { fn drop(self: &mut D) { out((*self).v); } }
+P: struct P { v: int } impl Drop for P { fn drop(self: &mut P) { if (*self).v > 5 { panic } } }
+G: struct G<'a> { r: &'a int } impl<'a> Drop for G<'a> { fn drop(self: &mut G<'a>) { out(*(*self).r); } }
+K: struct K<'a> { r: &'a mut int } impl<'a> Drop for K<'a> { fn drop(self: &mut K<'a>) { *(*self).r = *(*self).r + 1; } }
+H: copy struct H<'a> { r: &'a int, k: int }
+M: struct M<'a> { r: &'a mut int, h: H<'a> }
+W: struct W<T> { x: T }
+X: struct X<T> { x: T } impl<T> Drop for X<T> { fn drop(self: &mut X<T>) { out(90); } }
+E: enum E<'a> { A(int), R(&'a int), M(&'a mut int), B(Box<E<'a>>), D(D) }
+C: struct C<'a> { o: RefCell<Option<&'a C<'a>>>, v: int }
+Z: struct Z<'a> { o: Cell<Option<&'a Z<'a>>>, v: int } impl<'a> Drop for Z<'a> { fn drop(self: &mut Z<'a>) { match get(&(*self).o) { Option::Some(z) => { out((*z).v); }, Option::None => { } } } }
+N: struct N { v: D, link: RefCell<Option<Rc<N>>> }
+Tr: trait Tr { fn see(self: &Self) -> &int; fn edit(self: &mut Self) -> &mut int; fn end(self: Self) -> int; } impl Tr for int { fn see(self: &int) -> &int { self } fn edit(self: &mut int) -> &mut int { self } fn end(self: int) -> int { self } } impl Tr for D { fn see(self: &D) -> &int { &(*self).v } fn edit(self: &mut D) -> &mut int { &mut (*self).v } fn end(self: D) -> int { self.v } } impl<T: Tr> Tr for Box<T> { fn see(self: &Box<T>) -> &int { Tr::see(&**self) } fn edit(self: &mut Box<T>) -> &mut int { Tr::edit(&mut **self) } fn end(self: Box<T>) -> int { Tr::end(unbox(self)) } }
+keep: fn keep<'a, T: Copy + 'a>(x: T) -> fn 'a() -> T { fn[x]() -> T { x } }
+pass: fn pass<T>() -> fn 'static(T) -> T { fn[](x: T) -> T { x } }
+eat: fn eat<T>(x: T) { }
+id: fn id<T>(x: T) -> T { x }
+fst: fn fst<A, B>(a: A, b: B) -> A { a }
+one: fn one<'a, T>(c: bool, a: &'a T, b: &'a T) -> &'a T { if c { a } else { b } }
+each: fn each<'a, T>(c: bool, a: &'a mut T, b: &'a mut T) -> &'a mut T { if c { a } else { b } }`
+
+// withItems is the text of some functions, with the items that they use, so that what is looked at again and again is short.
+func withItems(functions string) string {
+	text := functions
+	for again, had := true, map[string]int{}; again; {
+		again = false
+		words := wordsOf(text)
+		for line := range strings.Lines(growerItems) {
+			name, item, _ := strings.Cut(line, ": ")
+			if had[name] == 0 && slices.Contains(words, name) {
+				had[name], again = 1, true
+				text = item + text
+			}
+		}
+	}
+	return "mod main { " + text + " }"
+}
 
 // grower makes texts that pass: it puts in one statement after another, anywhere, and keeps those with which the text still passes. So what comes out goes as far as it may.
 type grower struct {
@@ -81,7 +100,7 @@ func (m *grower) either(of ...string) string {
 // palette picks the types that a text has to do with: few, so that they meet.
 func (m *grower) palette() {
 	bases := strings.Split("int int D P G K H M E C Z N int D", " ")
-	around := strings.Split("$ &$ &mut_$ &$ &mut_$ Box<$> Vec<$> Vec<&$> Vec<&mut_$> Option<$> Option<&$> Option<&mut_$> RefCell<$> Ref<$> RefMut<$> &RefCell<$> RefCell<&$> Rc<RefCell<$>> Rc<$> W<&$> X<&$> X<&mut_$> W<$> X<$> (&$,_$) ($,_$) (&mut_$,_&mut_$) &&$ &mut_&$ &mut_&mut_$ &mut_Vec<$> Slice<$> SliceMut<$> Mutex<$> Lock<$> Box<&mut_$> Rc<N> fn()_->_int fn_mut()_->_int fn_once()_->_D Cell<int> Cell<&int> Cell<H> &Cell<&int> E &mut_E", " ")
+	around := strings.Split("$ &$ &mut_$ &$ &mut_$ Box<$> Vec<$> Vec<&$> Vec<&mut_$> Option<$> Option<&$> Option<&mut_$> RefCell<$> Ref<$> RefMut<$> &RefCell<$> RefCell<&$> Rc<RefCell<$>> Rc<$> W<&$> X<&$> X<&mut_$> W<$> X<$> (&$,_$) ($,_$) (&mut_$,_&mut_$) &&$ &mut_&$ &mut_&mut_$ &mut_Vec<$> Slice<$> SliceMut<$> Mutex<$> Lock<$> Box<&mut_$> Rc<N> fn()_->_int fn_mut()_->_int fn_once()_->_D Vec<fn()_->_int> Option<fn_once()_->_D> keep pass Cell<int> Cell<&int> Cell<H> &Cell<&int> E &mut_E", " ")
 	shared := strings.Split("Arc<Mutex<$>> Arc<Mutex<$>> (Sender<$>,_Receiver<$>) (Sender<$>,_Receiver<$>) Sender<$> Receiver<$> Handle<$> Handle<$> Lock<$> Arc<$> Box<$> Arc<Mutex<Vec<$>>> Option<$>", " ")
 	base := []string{m.one(bases...), m.one(bases...)}
 	if m.share > 0 {
@@ -149,6 +168,8 @@ func deeper(text, kind string) [][2]string {
 		return [][2]string{{text + ".v", "int"}}
 	case "G":
 		return [][2]string{{text + ".r", "&int"}}
+	case "keep":
+		return [][2]string{{text + "()", "&int"}}
 	case "K":
 		return [][2]string{{text + ".r", "&mut int"}}
 	case "H":
@@ -168,6 +189,29 @@ func places(text, kind, want string, depth int) []string {
 		for _, part := range deeper(text, kind) {
 			out = append(out, places(part[0], part[1], want, depth-1)...)
 		}
+	}
+	return out
+}
+
+// reads are the numbers in what a value of a type leads to, by functions of std too.
+func reads(text, kind string, depth int) []string {
+	if kind == "int" {
+		return []string{text}
+	}
+	if depth == 0 {
+		return nil
+	}
+	parts := deeper(text, kind)
+	if of, ok := map[string]string{"Vec": "(*at(&%, 0))", "Cell": "get(&%)", "RefCell": "(*ref_get(&borrow(&%)))", "Rc": "(*rc_get(&%))", "Arc": "(*arc_get(&%))", "Ref": "(*ref_get(&%))", "RefMut": "(*mut_get(&mut %))", "Lock": "(*lock_get(&mut %))", "Slice": "(*sat(%, 0))", "SliceMut": "(*mat(&mut %, 0))", "Option": "(match % { Option::Some(ref q) => q, Option::None => panic })"}[strings.Split(kind, "<")[0]]; ok {
+		inner := within(kind)
+		if kind[0] == 'O' {
+			inner = "&" + inner
+		}
+		parts = append(parts, [2]string{strings.Replace(of, "%", text, 1), inner})
+	}
+	var out []string
+	for _, part := range parts {
+		out = append(out, reads(part[0], part[1], depth-1)...)
 	}
 	return out
 }
@@ -264,6 +308,10 @@ func (m *grower) fresh(kind string) string {
 		return "make H { r: " + m.value("&int") + ", k: 3 }"
 	case "M":
 		return "make M { r: " + m.value("&mut int") + ", h: " + m.value("H") + " }"
+	case "keep":
+		return "keep(" + m.value("&int") + ")"
+	case "pass":
+		return "pass::<&int>()"
 	case "E":
 		return m.either("E::A(%s)|int", "E::R(%s)|&int", "E::M(%s)|&mut int", "E::B(%s)|Box<E>", "E::D(%s)|D")
 	case "C":
@@ -377,7 +425,7 @@ func (m *grower) reference(of string) string {
 	if m.Intn(2) == 0 {
 		rows := []string{"at(%s, 0)|at &Vec<$>", "rc_get(%s)|at &Rc<$>", "ref_get(%s)|at &Ref<$>", "sat(%s, 0)|Slice<$>", "arc_get(%s)|at &Arc<$>", "one(" + m.given() + " == 2, %s, %s)|at &$|at &$", "&*%s|at &mut $"}
 		if of == "int" {
-			rows = append(rows, "Tr::see(%s)|at &D", "Tr::see(%s)|at &Box<D>", "get(%s)|at &Cell<&int>")
+			rows = append(rows, "Tr::see(%s)|at &D", "Tr::see(%s)|at &Box<D>", "get(%s)|at &Cell<&int>", "%s(%s)|pass|&int", "%s()|keep")
 		}
 		if text := m.through(strings.Split(strings.ReplaceAll(strings.Join(rows, "\n"), "$", of), "\n")...); text != "" {
 			return text
@@ -448,7 +496,11 @@ func (m *grower) let(kind, value string) string {
 	m.count++
 	name := fmt.Sprint("v", m.count)
 	m.names = append(m.names[:len(m.names):len(m.names)], named{name, kind})
-	if value == "" {
+	switch {
+	case kind == "keep" || kind == "pass":
+		// The types of these cannot be written.
+		return "let mut " + name + " = " + m.fresh(kind) + "; "
+	case value == "":
 		return "let mut " + name + ": " + kind + "; "
 	}
 	return "let mut " + name + ": " + kind + " = " + value + "; "
@@ -456,7 +508,7 @@ func (m *grower) let(kind, value string) string {
 
 func (m *grower) statement() string {
 	kind := m.kind()
-	switch m.Intn(22) {
+	switch m.Intn(26) {
 	case 0, 1, 2, 3, 4, 5:
 		return m.let(kind, m.value(kind))
 	case 6, 7:
@@ -489,8 +541,45 @@ func (m *grower) statement() string {
 		if m.Intn(2) == 0 {
 			return m.let(kind, "")
 		}
+	case 18, 19, 20:
+		return m.escape()
 	}
 	return m.using()
+}
+
+// escape lets something go out of the block that it is in, in some way, and uses what may have it.
+func (m *grower) escape() string {
+	outer := m.names
+	few := slices.Clone(m.names[max(0, len(m.names)-m.Intn(3)):])
+	kind := m.one("&int", "&mut int", "G", "K", "H", "M", "E", "Option<&int>", "Option<&mut int>", "Vec<&int>", "Vec<G>", "Cell<&int>", "RefCell<&int>", "Box<&int>", "(&int, int)", "W<&int>", "X<&int>", "Rc<RefCell<&int>>", "(Sender<&int>, Receiver<&int>)", "(Sender<G>, Receiver<G>)", "fn() -> int", "fn mut() -> int", "Vec<fn() -> int>", "Option<fn once() -> D>", "&&int", "&mut &int", "Ref<int>", "Ref<&int>", "RefCell<Option<G>>", "keep", "Slice<int>", "SliceMut<int>", "SliceMut<&int>", m.kind())
+	m.names = few
+	value := ""
+	if m.Intn(3) > 0 {
+		value = m.value(kind)
+	}
+	text := m.let(kind, value)
+	kept := m.names[len(m.names)-1]
+	m.left = 4
+	text += "{ "
+	for range 1 + m.Intn(2) {
+		inner := m.one("int", "int", "int", "D", "Box<int>", "Vec<int>", "RefCell<int>", "G", "K", "pass", kind)
+		text += m.let(inner, m.fresh(inner))
+	}
+	for range 1 + m.Intn(3) {
+		m.left = 4
+		switch m.Intn(4) {
+		case 0:
+			text += kept.name + " = " + m.value(kept.kind) + "; "
+		case 1:
+			text += m.filling()
+		default:
+			text += m.statement()
+		}
+	}
+	m.names = []named{kept}
+	text += "} " + m.using()
+	m.names = append(outer[:len(outer):len(outer)], kept)
+	return text
 }
 
 // using does something with what has a name.
@@ -502,7 +591,7 @@ func (m *grower) using() string {
 	if of.kind == "int" {
 		of = m.names[m.Intn(len(m.names))]
 	}
-	numbers := places(of.name, of.kind, "int", 4)
+	numbers := reads(of.name, of.kind, 4)
 	switch {
 	case strings.HasPrefix(of.kind, "fn"):
 		return "eat(" + of.name + "()); "
@@ -649,9 +738,9 @@ func (b madeBody) text() string {
 func grown(seed int64, tries int) string {
 	m := &grower{Rand: rand.New(rand.NewSource(seed)), share: int(seed % 3)}
 	m.palette()
-	items := growerItems
+	functions := ""
 	text := func(more string) string {
-		return "mod main { " + items + more + " }"
+		return withItems(functions + more)
 	}
 	for k := range m.Intn(3) {
 		head := headsOfMade[m.Intn(len(headsOfMade))]
@@ -666,11 +755,28 @@ func grown(seed int64, tries int) string {
 		block := m.grow(given, head[2], tries/2, func(block string) string {
 			return text(of(block) + "fn main(n: int) -> int { n }")
 		})
-		items += of(block)
+		functions += of(block)
 		m.made = append(m.made, f)
 	}
 	block := m.grow([]named{{"n", "int"}}, "int", tries, func(block string) string {
 		return text("fn main(n: int) -> int " + block)
 	})
 	return text("fn main(n: int) -> int " + block)
+}
+
+// escaping is a made text in which something may go out of its block; whether it passes is not looked at.
+func escaping(seed int64) string {
+	m := &grower{Rand: rand.New(rand.NewSource(seed)), share: []int{0, 0, 0, 1, 2}[seed%5], names: []named{{"n", "int"}}, gives: "int"}
+	m.palette()
+	body := ""
+	for range m.Intn(3) {
+		m.left = 3
+		kind := m.kind()
+		body += m.let(kind, m.value(kind))
+	}
+	for range 1 + m.Intn(2) {
+		m.left = 4
+		body += m.escape()
+	}
+	return withItems("fn main(n: int) -> int { " + body + "n }")
 }

@@ -42,6 +42,10 @@ var refused = []struct {
 	{`struct C<'a> { o: Cell<Option<&'a C<'a>>>, v: int } fn main(n: int) -> int { let a = make C { o: cell(Option::None), v: 1 }; let b = make C { o: cell(Option::None), v: 2 }; set(&a.o, Option::Some(&b)); set(&b.o, Option::Some(&a)); match get(&a.o) { Option::Some(c) => (*c).v, Option::None => 0 } }`, api.OK, "Done 2"},
 	{`struct C<'a> { o: RefCell<Option<Ref<'a, int>>>, i: RefCell<int> } fn main(n: int) -> int @{ let c = make C { o: refcell(Option::None), i: refcell(n) }; *mut_get(&mut borrow_mut(&c.o)) = Option::Some(borrow(&c.i)); 0 }`, api.ErrLoan, "WrongDead"},
 	{`struct C<'a> { o: RefCell<Option<Ref<'a, int>>>, i: RefCell<int> } fn main(n: int) -> int { let c = rc(make C { o: refcell(Option::None), i: refcell(n) }); @{ let d = rc_clone(&c); *mut_get(&mut borrow_mut(&(*rc_get(&c)).o)) = Option::Some(borrow(&(*rc_get(&d)).i)); } 0 }`, api.ErrLoan, "WrongDead"},
+	{`fn main(n: int) -> int { let r: &int; @{ let b = boxed(n); r = &*b; } *r }`, api.ErrLoan, "WrongDead"},
+	{`fn main(n: int) -> int { let r: &int; @{ let t = (1, Option::Some(boxed(n))); match t.1 { Option::Some(ref b) => { r = &**b; }, Option::None => panic } } *r }`, api.ErrLoan, "WrongDead"},
+	{`struct S<'a> { r: &'a mut int } impl<'a> Drop for S<'a> { fn drop(self: &mut S<'a>) { *(*self).r = 1; } } fn main(n: int) -> int { let mut x = n; let q: &mut int; @{ let s = make S { r: &mut x }; q = &mut *s.r; } *q = 2; x }`, api.ErrLoan, "WrongKin"},
+	{`struct S<'a> { r: &'a mut int } fn main(n: int) -> int { let mut x = n; let q: &mut int; { let s = make S { r: &mut x }; q = &mut *s.r; } *q = 2; x }`, api.OK, "Done 2"},
 	// Guards and what they give.
 	{`fn main(n: int) -> int { let g = @{ let c = refcell(n); borrow(&c) }; *ref_get(&g) }`, api.ErrLoan, "WrongDead"},
 	{`fn main(n: int) -> int { let c = refcell(n); let r = @{ let g = borrow(&c); ref_get(&g) }; *r }`, api.ErrLoan, "Done 5"},

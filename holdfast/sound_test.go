@@ -114,8 +114,8 @@ func TestChangedAreSound(t *testing.T) {
 // P31, P32, P33: texts that pass, made statement by statement.
 func TestGrownAreSound(t *testing.T) {
 	s, r := seen{}, rand.New(rand.NewSource(3))
-	for seed := range int64(24) {
-		text := grown(seed, 40)
+	for seed := range int64(20) {
+		text := grown(seed, 35)
 		p, fault := Load(text)
 		if fault.Kind != api.OK {
 			t.Errorf("%s: %v", text, fault)
@@ -124,7 +124,21 @@ func TestGrownAreSound(t *testing.T) {
 			s.sound(t, text, p, arg, 5000, randomPicks(r))
 		}
 	}
-	s.enough(t, 20, "Done", "Failed", "threads", "held")
+	s.enough(t, 5, "Done", "Failed", "threads", "held")
+}
+
+// P31, P32, P33: texts in which something may go out of its block: most are refused, the others are sound.
+func TestEscapingAreSound(t *testing.T) {
+	s, r := seen{}, rand.New(rand.NewSource(6))
+	for seed := range int64(2000) {
+		text := escaping(seed)
+		p, fault := Load(text)
+		s[fmt.Sprint("fault ", fault.Kind)]++
+		if fault.Kind == api.OK {
+			s.sound(t, text, p, r.Intn(6), 3000, randomPicks(r))
+		}
+	}
+	s.enough(t, 20, "Done", "held", "fault 0", "fault 25", "fault 27", "fault 29")
 }
 
 // P31: a run that is cut off anywhere has not gone wrong till then.

@@ -6,9 +6,9 @@ import (
 	"holdfast/api"
 )
 
-// stdNames are the names that every module sees if it has no others of that name.
+// stdNames are the names that every module sees if it has no others of that name. They are put together for each path that is looked up, so there is room for all of them from the beginning.
 func stdNames() map[string]api.Named {
-	names := map[string]api.Named{}
+	names := make(map[string]api.Named, 1+api.StdTypes+api.TrFirst+api.Libs)
 	add := func(name string, sort, n int) {
 		names[name] = api.Named{Name: name, Sort: sort, N: n, Pub: true}
 	}
