@@ -31,6 +31,9 @@ var refused = []struct {
 	{`fn two<'a>(r: &'a mut int) -> (&'a mut int, &'a int) { let s = &*r; (@r, s) } fn main(n: int) -> int { let mut x = n; let p = two(&mut x); *p.0 = 1; *p.1 }`, api.ErrLoan, "WrongKin"},
 	{`trait Dup { fn dup(self: &Self) -> Self; } impl<'a> Dup for &'a int { fn dup(self: &&'a int) -> &'a int { *self } } fn f<T: Dup>(t: &T) -> T { Dup::dup(t) } fn main(n: int) -> int { let r = @{ let x = n; f(&&x) }; *r }`, api.ErrLoan, "WrongDead"},
 	{`trait Put { fn put(self: &mut Self, x: Self); } impl<'a> Put for &'a int { fn put(self: &mut &'a int, x: &'a int) { *self = x; } } fn main(n: int) -> int { let one = 1; let mut r = &one; @{ let x = n; Put::put(&mut r, &x); } *r }`, api.ErrLoan, "WrongDead"},
+	{`struct A<T> { b: Option<Box<B<T>>> } struct B<T> { c: Cell<T>, a: Option<Box<A<T>>> } fn put<T: Copy>(a: &A<T>, x: T) { match (*a).b { Option::Some(ref b) => { set(&(**b).c, x); }, Option::None => { } } } fn main(n: int) -> int { let one = 1; let a = make A { b: Option::Some(boxed(make B { c: cell(&one), a: Option::None })) }; @{ let x = n; put(&a, &x); } match a.b { Option::Some(ref b) => *get(&(**b).c), Option::None => 0 } }`, api.ErrLoan, "WrongDead"},
+	{`struct P<'a> { q: Q<'a> } struct Q<'a> { c: Cell<&'a int> } fn put<'a>(p: &P<'a>, x: &'a int) { set(&(*p).q.c, x); } fn main(n: int) -> int { let one = 1; let p = make P { q: make Q { c: cell(&one) } }; @{ let x = n; put(&p, &x); } *get(&p.q.c) }`, api.ErrLoan, "WrongDead"},
+	{`fn swap<T>(a: &mut T, b: T) -> T { replace(a, b) } fn main(n: int) -> int { let one = 1; let mut r = &one; @{ let x = n; swap(&mut r, &x); } *r }`, api.ErrLoan, "WrongDead"},
 	// What is dropped later than what it has lent.
 	{`struct D<'a> { r: &'a int } impl<'a> Drop for D<'a> { fn drop(self: &mut D<'a>) { out(*(*self).r); } } fn main(n: int) -> int @{ let d: D; let x = n; d = make D { r: &x }; 0 }`, api.ErrLoan, "WrongDead"},
 	{`struct D<'a> { r: &'a int } impl<'a> Drop for D<'a> { fn drop(self: &mut D<'a>) { out(*(*self).r); } } fn main(n: int) -> int @{ let mut v = vec::<D>(); let x = n; push(&mut v, make D { r: &x }); 0 }`, api.ErrLoan, "WrongDead"},
@@ -53,6 +56,9 @@ var refused = []struct {
 	{`fn main(n: int) -> int { let mut c = refcell(n); let g = borrow_mut(&c); c @= refcell(1); let h = g; 1 }`, api.ErrLoan, "WrongKin"},
 	{`fn main(n: int) -> int { let mut c = refcell(n); let g = borrow_mut(&c); let d = replace(@&mut c, refcell(1)); let h = g; 1 }`, api.ErrLoan, "WrongKin"},
 	{`fn take<'a>(g: &'a mut RefMut<'a, int>) -> &'a mut int { mut_get(g) } fn main(n: int) -> int @{ let c = refcell(n); let mut g = borrow_mut(&c); *take(&mut g) = 1; 1 }`, api.ErrLoan, "Done 1"},
+	{`@fn f<'a>(g: Ref<'a, int>) -> &'a int { ref_get(&g) } fn main(n: int) -> int { let c = refcell(n); let r = f(borrow(&c)); *mut_get(&mut borrow_mut(&c)) = 1; *r }`, api.ErrLoan, "WrongKin"},
+	{`@fn f<'a, 'b>(g: &'b Ref<'a, int>) -> &'a int { ref_get(g) } fn main(n: int) -> int { let c = refcell(n); let r = { let g = borrow(&c); f(&g) }; *mut_get(&mut borrow_mut(&c)) = 1; *r }`, api.ErrLives, "WrongKin"},
+	{`@fn f<'a, 'b>(g: &'b mut Lock<'a, int>) -> &'a mut int { lock_get(g) } fn main(n: int) -> int { let c = mutex(n); let r = { let mut g = lock(&c); f(&mut g) }; *lock_get(&mut lock(&c)) = 1; *r }`, api.ErrLives, "WrongKin"},
 	// Slices and elements.
 	{`fn main(n: int) -> int { let mut v = vec::<int>(); push(&mut v, 1); let s = view(&v, 0, 1); push(@&mut v, 2); *sat(s, 0) }`, api.ErrLoan, "WrongKin"},
 	{`fn main(n: int) -> int { let mut v = vec::<int>(); push(&mut v, 1); push(&mut v, 1); let p = cut_mut(view_mut(&mut v, 0, 2), 1); let mut a = p.0; let mut b = p.1; *mat(&mut a, 0) = 1; let k = len(@&v); *mat(&mut b, 0) }`, api.ErrLoan, "Done 1"},
@@ -90,6 +96,11 @@ var refused = []struct {
 	{`fn main(n: int) -> int { let mut x = n; let mut f = fn mut[&mut x]() -> int { *x = *x + 1; *x }; let mut g = fn mut[@&mut x]() -> int { *x = *x + 1; *x }; f() + g() + f() }`, api.ErrLoan, "WrongKin"},
 	{`fn call<'a>(f: &'a fn mut() -> int) -> int { (@*f)() } fn main(n: int) -> int { let mut x = n; call(&fn mut[&mut x]() -> int { *x = 1; *x }) }`, api.ErrMut, "Done 1"},
 	{`fn main(n: int) -> int { let mut x = n; let mut f = fn mut[&mut x](k: int) -> int { *x = *x + k; *x }; f(@f(1)) }`, api.ErrLoan, "WrongKin"},
+	{`struct S<'a, T> { f: fn 'a(T) -> T } fn mk<T>() -> S<'static, T> { make S { f: fn[](x: T) -> T { x } } } fn main(n: int) -> int { let s = mk::<&int>(); let r = @{ let x = n; (s.f)(&x) }; *r }`, api.ErrLoan, "WrongDead"},
+	{`struct S<'a, T> { f: fn 'a(T) -> T } fn mk<T>() -> S<'static, T> { make S { f: fn[](x: T) -> T { x } } } fn main(n: int) -> int { let r = @{ let x = n; let s = mk::<&int>(); (s.f)(&x) }; *r }`, api.ErrLoan, "WrongDead"},
+	{`fn keep<'a, T: Copy + 'a>(x: T) -> fn 'a() -> T { fn[x]() -> T { x } } fn main(n: int) -> int { let r = @{ let x = n; let f = keep(&x); f() }; *r }`, api.ErrLoan, "WrongDead"},
+	{`struct S<'a> { f: fn 'a() -> int } fn main(n: int) -> int { let s = @{ let x = n; make S { f: fn[&x]() -> int { *x } } }; (s.f)() }`, api.ErrLoan, "WrongDead"},
+	{`struct G<'a> { r: &'a int } trait Tr { fn f(self: &Self, n: int) -> int; } impl<'a> Tr for G<'a> { fn f(self: &G<'a>, n: int) -> int { let y: Self; { let k = n; let id = @fn[](x: Self) -> Self { x }; y = id(make G { r: &k }); } *y.r } } fn main(n: int) -> int { let x = 3; let g = make G { r: &x }; Tr::f(&g, n) }`, api.ErrLives, "WrongDead"},
 	// Threads.
 	{`fn main(n: int) -> int @{ let x = n; let h = spawn[&x] -> int { *x }; match join(h) { Option::Some(y) => y, Option::None => 0 } }`, api.ErrLoan, "Done 5"},
 	{`@fn f<'a>(x: &'a int) -> Handle<int> { spawn[x] -> int { *x } } fn main(n: int) -> int { let h = { let x = n; f(&x) }; match join(h) { Option::Some(y) => y, Option::None => 0 } }`, api.ErrLives, "WrongDead"},
