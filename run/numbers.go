@@ -1,53 +1,14 @@
 package run
 
 import (
-	"math"
-
 	"holdfast/api"
+	"holdfast/reckon"
 )
 
-// binary reckons with two numbers; false says that there is none of 64 bits.
+// binary reckons with two numbers; false says that there is a panic.
 func binary(op, a, b int) (value, bool) {
-	switch op {
-	case api.OAdd:
-		return number(a + b), b >= 0 && a <= math.MaxInt64-b || b < 0 && a >= math.MinInt64-b
-	case api.OSub:
-		return number(a - b), b >= 0 && a >= math.MinInt64+b || b < 0 && a <= math.MaxInt64+b
-	case api.OMul:
-		return number(a * b), a == 0 || divides(a*b, a) && a*b/a == b
-	case api.ODiv:
-		if !divides(a, b) {
-			return nil, false
-		}
-		return number(a / b), true
-	case api.ORem:
-		if !divides(a, b) {
-			return nil, false
-		}
-		return number(a % b), true
-	}
-	return compared(op, a, b), true
-}
-
-// divides says whether there is a quotient.
-func divides(a, b int) bool {
-	return b != 0 && (a != math.MinInt64 || b != -1)
-}
-
-func compared(op, a, b int) value {
-	switch op {
-	case api.OEq:
-		return truth(a == b)
-	case api.ONe:
-		return truth(a != b)
-	case api.OLt:
-		return truth(a < b)
-	case api.OLe:
-		return truth(a <= b)
-	case api.OGt:
-		return truth(a > b)
-	}
-	return truth(a >= b)
+	n, ok := reckon.Two(op, a, b)
+	return number(n), ok
 }
 
 // unary reckons with one number, likewise.
@@ -55,5 +16,6 @@ func unary(op, a int) (value, bool) {
 	if op == api.ONot {
 		return number(1 - a), true
 	}
-	return number(-a), a != math.MinInt64
+	n, ok := reckon.Negative(a)
+	return number(n), ok
 }

@@ -126,13 +126,6 @@ func some(v value) value {
 	return data{many: together(v), variant: 1, drop: -1}
 }
 
-func truth(b bool) value {
-	if b {
-		return number(1)
-	}
-	return number(0)
-}
-
 func newCell(kind int, content value) value {
 	return cell{many: together(content), kind: kind}
 }
