@@ -2,6 +2,18 @@ package emit
 
 import "testing"
 
+// P39: the document's examples that pass.
+func TestExamples(t *testing.T) {
+	rows(t, [][2]string{
+		{"fn add(a: int, b: int) -> int { a + b } fn main(n: int) -> int { let x = add(n, 1); x * 2 }", "Done 12"},
+		{"fn main(n: int) -> int { let mut x = n; let r = &mut x; *r = 1; let y = x; y }", "Done 1"},
+		{"fn f(n: int) -> int { let a = make D { v: 1 }; let b = make D { v: 2 }; let c = boxed(make D { v: 3 }); if n > 3 { panic } else { n } } fn main(n: int) -> int { let z = make D { v: 9 }; f(n) }", "Failed [3 2 1 9]"},
+		{"struct N { link: RefCell<Option<Rc<N>>> } fn main(n: int) -> int { let a = rc(make N { link: refcell(Option::None) }); let b = rc_clone(&a); { let mut g = borrow_mut(&(*rc_get(&a)).link); *mut_get(&mut g) = Option::Some(b); } rc_count(&a) }", "Done 2 left"},
+		{"fn main(n: int) -> int { let m = mutex(n); let g = lock(&m); let h = lock(&m); 1 }", "Stuck"},
+		{"fn main(n: int) -> int { let p = chan::<int>(); let q = chan::<int>(); let tx = p.0; let rx = p.1; let tx2 = q.0; let rx2 = q.1; let h = spawn[rx, tx2] -> int { let mut k = 0; loop { match recv(&rx) { Option::Some(x) => { send(&tx2, x * 2); k = k + 1; }, Option::None => break } } k }; let mut i = 0; while i < n { send(&tx, i); i = i + 1; } { let gone = tx; } let mut s = 0; loop { match recv(&rx2) { Option::Some(x) => { s = s + x; }, Option::None => break } } match join(h) { Option::Some(k) => s * 100 + k, Option::None => 0 - 1 } }", "Done 2005"},
+	})
+}
+
 // P39: numbers, at their ends too.
 func TestNumbers(t *testing.T) {
 	rows(t, [][2]string{
@@ -43,6 +55,8 @@ func TestWays(t *testing.T) {
 		{"fn f(n: int) -> int { if n == 0 { 0 } else { n + f(n - 1) } } fn main(n: int) -> int { f(n * 40) }", "Done 20100"},
 		{"fn even(n: int) -> bool { if n == 0 { true } else { odd(n - 1) } } fn odd(n: int) -> bool { if n == 0 { false } else { even(n - 1) } } fn main(n: int) -> int { if even(n) { 1 } else { 2 } }", "Done 2"},
 		{"fn f(a: int, b: bool, c: (int, int)) -> (int, bool) { (a + c.0 * 10 + c.1 * 100, !b) } fn main(n: int) -> int { let r = f(n, true, (n + 1, n + 2)); if r.1 { 0 } else { r.0 } }", "Done 765"},
+		{"fn main(n: int) -> int { if n < 1 { 0 } else { main(n - 1) + 2 } }", "Done 10"},
+		{"let x = if n > 3 { 4 } else { panic }; let y: int = match x { 4 => 6, _ => return 9 }; x + y", "Done 10"},
 		{"fn none() { } fn main(n: int) -> int { none(); let u = none(); let v = (u, n); v.1 }", "Done 5"},
 	})
 }

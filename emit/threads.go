@@ -1,6 +1,9 @@
 package emit
 
-import "holdfast/api"
+import (
+	"holdfast/api"
+	"holdfast/shapes"
+)
 
 // A handle is the address of a block: whether the thread has left, whether somebody has the handle, whether the thread gave something; then what it gave, and ahead of that what it has captured.
 const (
@@ -66,4 +69,14 @@ func (m *maker) beginThread(fn int) {
 	h.place(empty)
 	h.release(handle)
 	h.stop(0, 0)
+}
+
+// dropGiven drops what a thread has given, from a slot on, if nobody asks for it. A panic then is its end.
+func (h *hand) dropGiven(kind shapes.Type, at int) {
+	if h.dropped(kind) {
+		over := h.newLabel()
+		h.adr(h.top, at)
+		h.call(h.dropper(kind), h.top, over)
+		h.place(over)
+	}
 }

@@ -100,6 +100,8 @@ func TestEnds(t *testing.T) {
 		{"let c = chan::<int>(); let s = sender_clone(&c.0); let r = c.1; let h = spawn[r] -> int { or(recv(&r), 1) }; out(2); n", nil, "Done 5 [2] by [0 0 0 0 0 0 0 1 1 1 1]"},
 		{"let c = chan::<int>(); let s = c.0; let r = c.1; let h = spawn[r] -> int { recv(&r); 1 }; join(h); 2", nil, "Stuck by [0 1]"},
 		{"let m = arc(mutex(1)); let k = arc_clone(&m); let g = lock(arc_get(&m)); let h = spawn[k] -> int { let g = lock(arc_get(&k)); 1 }; join(h); 7", nil, "Stuck by [0 0 0 1]"},
+		{"spawn[] -> int { let m = mutex(1); let g = lock(&m); let h = lock(&m); 1 }; 7", nil, "Stuck 7 by [0 0 0 1 1]"},
+		{"spawn[] -> int { let m = mutex(1); let g = lock(&m); let h = lock(&m); 1 }; panic", nil, "Stuck by [0 0 0 1 1]"},
 		{"let a = p(6); panic", nil, "Aborted [6] by [0 0]"},
 		{"let h = spawn[] -> int { let a = p(6); panic }; 4", nil, "Aborted 4 [6] by [0 0 0 1 1 1]"},
 		{"let h = spawn[] -> int { let a = p(6); panic }; 4", []int{1, 1, 1, 1}, "Aborted [6] by [0 1 1 1]"},

@@ -1,6 +1,7 @@
 package emit
 
 import (
+	"slices"
 	"strconv"
 
 	"holdfast/api"
@@ -54,6 +55,11 @@ func (t *types) comesUp(of shapes.Type) bool {
 // dropped says whether there may be values of a type for which something is to be done when they are dropped.
 func (t *types) dropped(of shapes.Type) bool {
 	return t.owns(of) && t.comesUp(of)
+}
+
+// anyDropped says the same of the types of parts, whether it holds of one.
+func (t *types) anyDropped(parts []part) bool {
+	return slices.ContainsFunc(parts, func(p part) bool { return t.dropped(p.kind) })
 }
 
 // facts are those of a type without type parameters.
@@ -201,4 +207,9 @@ func (t *types) stepped(of shapes.Type, step api.Step) part {
 		return t.parts(of, step.N)[step.M]
 	}
 	return t.parts(of, 0)[step.N]
+}
+
+// variants is how many variants an enum has.
+func (t *types) variants(kind shapes.Type) int {
+	return len(t.Datas[t.Shape(kind).N].Cases)
 }
