@@ -23,9 +23,44 @@ type variable struct {
 	name  string
 	kind  *kindOf
 	mut   bool
-	there bool // all of it, on all ways
-	gone  []int
-	depth int // how many loops are around it
+	none  bool     // it may not be there
+	gone  []string // parts of it that may not be there
+	depth int      // how many loops are around it
+}
+
+// there says whether all of it is there, on all ways.
+func (v *variable) there() bool {
+	return !v.none && len(v.gone) == 0
+}
+
+// has says whether all of a part is there.
+func (v *variable) has(part string) bool {
+	return !v.none && !slices.ContainsFunc(v.gone, func(g string) bool {
+		return strings.HasPrefix(g+".", part+".") || strings.HasPrefix(part+".", g+".")
+	})
+}
+
+// takes says whether a part may be given anew: what it stands in is there.
+func (v *variable) takes(part string) bool {
+	return !v.none && !slices.ContainsFunc(v.gone, func(g string) bool {
+		return g != part && strings.HasPrefix(part+".", g+".")
+	})
+}
+
+// found is a part of a value, and its type.
+type found struct {
+	path string
+	kind *kindOf
+}
+
+// within are the parts of a type, and theirs.
+func (k *kindOf) within(path string) []found {
+	var out []found
+	for n, part := range k.parts {
+		at := found{path + "." + k.names[n], part}
+		out = append(append(out, at), part.within(at.path)...)
+	}
+	return out
 }
 
 // scribe makes up texts of owners: what is moved, in part or on some ways, given anew, dropped, by panics too.
@@ -155,13 +190,13 @@ func (m *scribe) pick(holds func(*variable) bool) *variable {
 
 // canMove says whether all of a variable may be moved here: it is there, and in this round of the loop alone.
 func (m *scribe) canMove(v *variable) bool {
-	return v.there && v.depth == m.depth
+	return v.there() && v.depth == m.depth
 }
 
 // operand is a value of a type: a variable, now and then, which is moved.
 func (m *scribe) operand(k *kindOf) string {
 	if v := m.pick(func(v *variable) bool { return v.kind == k && m.canMove(v) }); v != nil && m.Intn(2) == 0 {
-		v.there = false
+		v.none = true
 		return v.name
 	}
 	return k.value(m)
@@ -187,7 +222,7 @@ func (m *scribe) statements(many int) string {
 func (m *scribe) states() []variable {
 	var out []variable
 	for _, v := range m.vars {
-		out = append(out, variable{there: v.there, gone: slices.Clone(v.gone)})
+		out = append(out, variable{none: v.none, gone: slices.Clone(v.gone)})
 	}
 	return out
 }
@@ -197,7 +232,7 @@ func (m *scribe) restore(states []variable, meet bool) {
 	for n, s := range states {
 		v := m.vars[n]
 		if meet {
-			v.there = v.there && s.there
+			v.none = v.none || s.none
 			for _, part := range s.gone {
 				if !slices.Contains(v.gone, part) {
 					v.gone = append(v.gone, part)
@@ -205,7 +240,7 @@ func (m *scribe) restore(states []variable, meet bool) {
 			}
 			continue
 		}
-		v.there, v.gone = s.there, s.gone
+		v.none, v.gone = s.none, s.gone
 	}
 }
 
@@ -250,7 +285,7 @@ func (m *scribe) leave() string {
 
 // let makes a variable.
 func (m *scribe) let(kind *kindOf, value string) string {
-	v := &variable{name: m.next("x"), kind: kind, mut: m.Intn(3) > 0, there: value != "", depth: m.depth}
+	v := &variable{name: m.next("x"), kind: kind, mut: m.Intn(3) > 0, none: value == "", depth: m.depth}
 	m.vars = append(m.vars, v)
 	text := "let "
 	if v.mut {
@@ -306,39 +341,52 @@ func (m *scribe) assign() string {
 	if v == nil {
 		return "out(3);"
 	}
-	if v.there && len(v.kind.parts) > 0 && m.Intn(2) == 0 {
-		n := m.Intn(2)
-		return v.name + "." + v.kind.names[n] + " = " + v.kind.parts[n].value(m) + ";"
+	if parts := v.kind.within(v.name); len(parts) > 0 && m.Intn(2) == 0 {
+		at := parts[m.Intn(len(parts))]
+		if !v.takes(at.path) {
+			return "out(30);"
+		}
+		v.gone = slices.DeleteFunc(v.gone, func(g string) bool { return strings.HasPrefix(g+".", at.path+".") })
+		return at.path + " = " + at.kind.value(m) + ";"
 	}
-	if len(v.gone) == 1 && m.Intn(2) == 0 {
-		n := v.gone[0]
-		v.gone, v.there = nil, true
-		return v.name + "." + v.kind.names[n] + " = " + v.kind.parts[n].value(m) + ";"
-	}
-	if v.there && m.Intn(3) == 0 {
+	if v.there() && m.Intn(3) == 0 {
 		return "{ let r = &mut " + v.name + "; *r = " + v.kind.value(m) + "; }"
 	}
-	if v.there && m.Intn(3) == 0 {
+	if v.there() && m.Intn(3) == 0 {
 		return "eat(replace(&mut " + v.name + ", " + v.kind.value(m) + "));"
 	}
 	value := v.kind.value(m)
-	v.there, v.gone = true, nil
+	v.none, v.gone = false, nil
 	return v.name + " = " + value + ";"
 }
 
 // movePart moves a part of a variable.
 func (m *scribe) movePart() string {
-	v := m.pick(func(v *variable) bool { return m.canMove(v) && len(v.kind.parts) > 0 })
+	v := m.pick(func(v *variable) bool { return !v.none && v.depth == m.depth && len(v.kind.parts) > 0 })
 	if v == nil {
 		return "out(4);"
 	}
-	n := m.Intn(2)
-	v.there, v.gone = false, append(v.gone, n)
-	place := v.name + "." + v.kind.names[n]
-	if m.Intn(2) == 0 {
-		return "eat(" + place + ");"
+	parts := v.kind.within(v.name)
+	at := parts[m.Intn(len(parts))]
+	if !v.has(at.path) {
+		return "out(31);"
 	}
-	return m.let(v.kind.parts[n], place)
+	v.gone = append(v.gone, at.path)
+	if m.Intn(2) == 0 {
+		return "eat(" + at.path + ");"
+	}
+	return m.let(at.kind, at.path)
+}
+
+// pattern takes a value as a whole, or in parts, or lets it be.
+func (m *scribe) pattern(k *kindOf) string {
+	switch {
+	case m.Intn(2) == 0:
+		return "_"
+	case k != nil && strings.HasPrefix(k.text, "(") && m.Intn(2) == 0:
+		return "(" + m.pattern(k.parts[0]) + ", _, " + m.pattern(k.parts[1]) + ")"
+	}
+	return m.next("y")
 }
 
 // match takes an enum apart: some of its parts are moved away.
@@ -347,7 +395,7 @@ func (m *scribe) match() string {
 	if v == nil {
 		return "out(5);"
 	}
-	v.there = false
+	v.none = true
 	arms := ""
 	for n, parts := range v.kind.cases {
 		name := v.kind.text + "::" + string("ABC"[n])
@@ -355,12 +403,8 @@ func (m *scribe) match() string {
 			name = []string{"Option::None", "Option::Some"}[n]
 		}
 		var patterns []string
-		for range parts {
-			pattern := "_"
-			if m.Intn(2) == 0 {
-				pattern = m.next("y")
-			}
-			patterns = append(patterns, pattern)
+		for _, part := range parts {
+			patterns = append(patterns, m.pattern(part))
 		}
 		if len(parts) > 0 {
 			name += "(" + strings.Join(patterns, ", ") + ")"
@@ -372,7 +416,7 @@ func (m *scribe) match() string {
 
 // within does something with what a variable leads to.
 func (m *scribe) within() string {
-	v := m.pick(func(v *variable) bool { return v.there && v.mut && v.kind.of != nil })
+	v := m.pick(func(v *variable) bool { return v.there() && v.mut && v.kind.of != nil })
 	if v == nil {
 		return "out(6);"
 	}
@@ -401,7 +445,7 @@ func (m *scribe) captured(holds func(*variable) bool) (*variable, string) {
 	if v == nil || m.inside > 0 {
 		return nil, ""
 	}
-	v.there = false
+	v.none = true
 	vars, depth, returns := m.vars, m.depth, m.returns
 	m.vars, m.depth, m.returns = nil, 0, v.kind.value(m)
 	m.inside++
