@@ -1,8 +1,6 @@
 package emit
 
-import (
-	"holdfast/api"
-)
+import "holdfast/api"
 
 // A Vec is the address of its elements (0 if there is no room for any yet), for how many there is room, and how many there are. A Slice or SliceMut is the address of its first element, and how many there are.
 const (
