@@ -120,6 +120,21 @@ func TestEnds(t *testing.T) {
 	}
 }
 
+// P39: drops that meet, begin threads, or are done while a panic goes out of a thread.
+func TestDropsThatMeet(t *testing.T) {
+	const tells = "struct S { tx: Sender<int>, k: int } impl Drop for S { fn drop(self: &mut S) { send(&(*self).tx, (*self).k); } } fn s(tx: &Sender<int>, k: int) -> S { make S { tx: sender_clone(tx), k: k } } fn all(rx: Receiver<int>) -> int { let mut k = 0; loop { match recv(&rx) { Option::Some(x) => { k = k * 10 + x; }, Option::None => return k } } } "
+	rows(t, [][2]string{
+		{tells + "fn main(n: int) -> int { let c = chan::<int>(); let tx = c.0; let rx = c.1; { let a = s(&tx, 1); let b = (s(&tx, 2), s(&tx, 3)); eat(b.1); } eat(tx); all(rx) }", "Done 321"},
+		{tells + "fn main(n: int) -> int { let c = chan::<int>(); let tx = c.0; let rx = c.1; let a = s(&tx, 1); let b = s(&tx, 2); let h = spawn[a, b] -> S { if *at(&fill(3), 2) > 1 { panic } a }; eat(tx); let k = all(rx); match join(h) { Option::Some(x) => k, Option::None => 0 - k } }", "Done -12"},
+		{tells + "fn main(n: int) -> int { let c = chan::<int>(); let tx = c.0; let rx = c.1; let mut v = vec::<S>(); let mut i = 0; while i < n { push(&mut v, s(&tx, i)); i = i + 1; } let h = spawn[v] -> Vec<S> { v }; eat(h); eat(tx); all(rx) }", "Done 1234"},
+		{"struct T { k: int } impl Drop for T { fn drop(self: &mut T) { let k = (*self).k; spawn[k] -> D { d(k) }; out(k * 10); } } fn main(n: int) -> int { let a = make T { k: 1 }; let b = boxed(make T { k: 2 }); eat(b); let h = spawn[a] -> T { a }; n }", "Done 5 [20 2 10 1]"},
+		{"struct L { m: Arc<Mutex<int>>, k: int } impl Drop for L { fn drop(self: &mut L) { let mut g = lock(arc_get(&(*self).m)); let r = lock_get(&mut g); *r = *r * 10 + (*self).k; if *r > 100 { panic } } } fn l(m: &Arc<Mutex<int>>, k: int) -> L { make L { m: arc_clone(m), k: k } } fn main(n: int) -> int { let m = arc(mutex(0)); let a = l(&m, 1); let b = l(&m, 2); let h = spawn[a, b, n] -> int { let c = a; let e = b; n }; join(h); let mut g = lock(arc_get(&m)); *lock_get(&mut g) }", "Done 21"},
+		{"struct L { m: Arc<Mutex<int>>, k: int } impl Drop for L { fn drop(self: &mut L) { let mut g = lock(arc_get(&(*self).m)); let r = lock_get(&mut g); *r = *r * 10 + (*self).k; if *r > 10 { panic } } } fn l(m: &Arc<Mutex<int>>, k: int) -> L { make L { m: arc_clone(m), k: k } } fn main(n: int) -> int { let m = arc(mutex(0)); let a = (l(&m, 1), l(&m, 2), d(7)); let h = spawn[a, n] -> int { let c = a; n }; let j = join(h); out(3); let mut g = lock(arc_get(&m)); *lock_get(&mut g) }", "Done 12 [7 3]"},
+		{"let m = mutex(d(1)); { let g = lock(&m); } let o = Option::Some(lock(&m)); match o { Option::Some(g) => { let f = fn once[g]() -> int { 2 }; f() }, Option::None => 3 }", "Done 2 [1]"},
+		{"let a = arc(mutex(chan::<D>())); let b = arc_clone(&a); let h = spawn[b] -> int { let mut g = lock(arc_get(&b)); let c = lock_get(&mut g); send(&(*c).0, d(1)); panic }; join(h); let mut g = lock(arc_get(&a)); match recv(&(*lock_get(&mut g)).1) { Option::Some(x) => x.v + 10, Option::None => 0 }", "Done 11 [1]"},
+	})
+}
+
 // P39: something is left just if the source leaves something: rings.
 func TestLeft(t *testing.T) {
 	const node = "struct N { link: RefCell<Option<Rc<N>>>, b: Option<Box<int>> } fn node() -> Rc<N> { rc(make N { link: refcell(Option::None), b: Option::None }) } fn tie(a: &Rc<N>, b: &Rc<N>) { *mut_get(&mut borrow_mut(&(*rc_get(a)).link)) = Option::Some(rc_clone(b)); } "
