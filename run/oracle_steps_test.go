@@ -214,8 +214,6 @@ func (o *oracle) points(x *obj, path string, from *label, mut bool) *val {
 func (o *oracle) std(n int, ops []val) *val {
 	give := func(v val) *val { return &v }
 	own := func(kind string, x *obj) *val { return &val{kind: kind, spot: where{obj: x}} }
-	head := func(ref val) where { return where{ref.spot.obj, ref.spot.path + top, ref.spot.tag} }
-	content := func(ref val) where { return where{ref.spot.obj, ref.spot.path + at(0), ref.spot.tag} }
 	switch n {
 	case api.LBoxed:
 		return own("box", o.onHeap(ops[0]))
@@ -281,11 +279,7 @@ func (o *oracle) std(n int, ops []val) *val {
 		return give(val{kind: "cell", n: kind, parts: ops, clock: &clock{}})
 	}
 	if n == api.LGet || n == api.LSet || n == api.LBorrow || n == api.LBorrowMut || n == api.LLock {
-		c := o.seesSome(ops[0].spot)
-		if c.kind != "cell" {
-			o.bad(api.WrongForm)
-		}
-		return o.ofCell(n, c, ops, head(ops[0]), content(ops[0]))
+		return o.ofCell(n, ops)
 	}
 	if n == api.LRefGet || n == api.LMutGet || n == api.LLockGet {
 		g := o.itsOwner(ops[0])
@@ -337,8 +331,29 @@ func (o *oracle) ofSlice(n int, s val, ops []val) *val {
 	return &v
 }
 
-// ofCell has what is done with a cell.
-func (o *oracle) ofCell(n int, c *val, ops []val, head, content where) *val {
+// ofCell has what is done with a cell. Whether there is one is asked last: the chapter names the touch, but not that.
+func (o *oracle) ofCell(n int, ops []val) *val {
+	c := o.seesSome(ops[0].spot)
+	head, content := ops[0].spot, ops[0].spot
+	head.path += top
+	content.path += at(0)
+	switch n {
+	case api.LGet:
+		o.touch(content, false, "inner")
+	case api.LSet:
+		o.touch(content, true, "inner")
+	case api.LBorrow, api.LBorrowMut:
+		o.touch(head, true, "inner")
+	case api.LLock:
+		o.touch(head, true, "atomic")
+	}
+	if c.kind != "cell" {
+		o.bad(api.WrongForm)
+	}
+	return o.doneWithCell(n, c, ops)
+}
+
+func (o *oracle) doneWithCell(n int, c *val, ops []val) *val {
 	guard := func(kind int, mut bool) *val {
 		w := ops[0].spot
 		w.tag = o.label(w.tag, mut, true)
@@ -346,30 +361,25 @@ func (o *oracle) ofCell(n int, c *val, ops []val, head, content where) *val {
 	}
 	switch n {
 	case api.LGet:
-		o.touch(content, false, "inner")
 		v := c.parts[0].copied()
 		return &v
 	case api.LSet:
-		o.touch(content, true, "inner")
 		c.parts[0] = ops[1]
 		v := group()
 		return &v
 	case api.LBorrow:
-		o.touch(head, true, "inner")
 		if c.has == -1 {
 			return nil
 		}
 		c.has++
 		return guard(api.LyRef, false)
 	case api.LBorrowMut:
-		o.touch(head, true, "inner")
 		if c.has != 0 {
 			return nil
 		}
 		c.has = -1
 		return guard(api.LyRefMut, true)
 	}
-	o.touch(head, true, "atomic")
 	o.meets(c.clock)
 	c.has = 1
 	return guard(api.LyLock, true)

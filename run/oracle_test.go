@@ -452,7 +452,7 @@ func (o *oracle) canDo(f *frame, in api.Instr) bool {
 		return true
 	}
 	if in.N == api.LLock {
-		return v.kind != "cell" || v.has == 0
+		return v.kind != "cell" || v.n != api.LyMutex || v.has == 0
 	}
 	return v.kind != "receiver" || len(v.spot.obj.waiting) > 0 || v.spot.obj.senders == 0
 }

@@ -54,7 +54,7 @@ struct N { v: int, link: RefCell<Option<Rc<N>>> }
 enum E { A(int), B(Box<int>), C(D, int) }
 copy struct C { x: int, y: int }
 struct Q { d: D, v: int } impl Drop for Q { fn drop(self: &mut Q) { let k = d(50); if (*self).v > 5 { panic } } }
-enum F { A(Cell<int>), B(int), C(RefCell<int>), G((int, int)), H(&'static int) }
+enum F { A(Cell<int>), B(int), C(RefCell<int>), G((int, int)), H(&'static int), M(Mutex<int>) }
 enum L { Nil, Cons(int, Box<L>) }
 fn d(n: int) -> D { make D { v: n } }
 fn p(n: int) -> P { make P { v: n } }

@@ -15,10 +15,12 @@ func (t *thread) itsThing(v value) *thing {
 	return asked[owner](t.itsOwner(v)).leads
 }
 
-// itsCell is the cell that a reference leads to, not touched, and its spot.
-func itsCell(v value) (cell, spot) {
+// itsCell is the cell that a reference leads to, and its spot. Its head, or its content, as part says, is touched ahead of asking whether it is a cell: where another value stands by now, it is the touch that tells what is wrong.
+func (t *thread) itsCell(v value, part int, write bool, way int) (cell, spot) {
 	r := asked[refer](v)
-	return asked[cell](r.seen()), r.spot
+	of := r.seen()
+	t.touch(r.part(part), write, way)
+	return asked[cell](of), r.spot
 }
 
 // lib answers what a function of std gives, or that there is a panic.
@@ -179,18 +181,15 @@ func (t *thread) libCell(n int, opers []value) value {
 		return newCell(api.LyRefCell, opers[0])
 	case api.LMutex:
 		return newCell(api.LyMutex, opers[0])
-	}
-	c, s := itsCell(opers[0])
-	switch n {
 	case api.LGet:
-		t.touch(s.part(0), false, inner)
+		c, _ := t.itsCell(opers[0], 0, false, inner)
 		return c.parts[0]
 	case api.LSet:
-		t.touch(s.part(0), true, inner)
+		_, s := t.itsCell(opers[0], 0, true, inner)
 		s.part(0).put(opers[1])
 		return tupleOf()
 	}
-	t.touch(s.head(), true, atomic)
+	c, s := t.itsCell(opers[0], head, true, atomic)
 	t.meetAt(&c.known)
 	c.out = 1
 	s.put(c)
@@ -198,8 +197,7 @@ func (t *thread) libCell(n int, opers []value) value {
 }
 
 func (t *thread) libBorrow(n int, of value) (value, bool) {
-	c, s := itsCell(of)
-	t.touch(s.head(), true, inner)
+	c, s := t.itsCell(of, head, true, inner)
 	if c.out == withMut || n == api.LBorrowMut && c.out != 0 {
 		return nil, false
 	}

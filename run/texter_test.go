@@ -32,10 +32,13 @@ type seenName struct {
 }
 
 // kindsOfValues are the types of made values.
-var kindsOfValues = strings.Split("int int D D P E C Box<int> Box<D> Vec<int> Vec<D> &int &mut_int &D &mut_D &E &mut_E Rc<D> Rc<Cell<int>> Cell<int> RefCell<int> RefCell<D> Ref<int> RefMut<int> RefMut<D> Arc<int> Arc<D> Arc<Mutex<int>> Mutex<int> Mutex<D> Lock<int> Lock<D> Sender<int> Receiver<int> Sender<D> Receiver<D> (Sender<D>,_Receiver<D>) Handle<int> Handle<D> Option<int> Option<D> (D,_D) (int,_Box<int>) fn()_->_int fn_mut()_->_int fn_once()_->_D Slice<int> SliceMut<int> Rc<N> bool R &Cell<int> &RefCell<int> &Mutex<int>", " ")
+var kindsOfValues = strings.Split("int int D D P E C Box<int> Box<D> Vec<int> Vec<D> &int &mut_int &D &mut_D &E &mut_E Rc<D> Rc<Cell<int>> Cell<int> RefCell<int> RefCell<D> Ref<int> RefMut<int> RefMut<D> Arc<int> Arc<D> Arc<Mutex<int>> Mutex<int> Mutex<D> Lock<int> Lock<D> Sender<int> Receiver<int> Sender<D> Receiver<D> (Sender<D>,_Receiver<D>) Handle<int> Handle<D> Option<int> Option<D> (D,_D) (int,_Box<int>) fn()_->_int fn_mut()_->_int fn_once()_->_D Slice<int> SliceMut<int> Rc<N> bool R F &Cell<int> &RefCell<int> &Mutex<int>", " ")
 
 // kindsOfThreads are the types of what threads have to do with.
 var kindsOfThreads = strings.Split("int D P Box<int> &int &mut_int Arc<int> Arc<D> Arc<Mutex<int>> Arc<Mutex<int>> Arc<Mutex<int>> Mutex<int> Lock<int> Sender<int> Receiver<int> Sender<D> (Sender<D>,_Receiver<D>) (Sender<D>,_Receiver<D>) Handle<int> Handle<int> Handle<int> Handle<D> Handle<D> Option<int> Option<D> fn_once()_->_D &Mutex<int> Vec<int>", " ")
+
+// kindsOfCells are the types of cells, and of what keeps them.
+var kindsOfCells = strings.Split("F F F F F F int Cell<int> RefCell<int> Mutex<int> Ref<int> RefMut<int> Lock<int> &Cell<int> &RefCell<int> &Mutex<int> Box<int> Rc<Cell<int>> D", " ")
 
 func (m *texter) kind() string {
 	return strings.ReplaceAll(m.kinds[m.Intn(len(m.kinds))], "_", " ")
@@ -216,6 +219,8 @@ func (m *texter) fresh(kind string) string {
 		return "make R { d: " + m.value("D") + ", b: " + m.value("Box<D>") + " }"
 	case "E":
 		return m.either(m.say("E::A(%s)", "int"), m.say("E::B(%s)", "Box<int>"), m.say("E::C(%s, 3)", "D"))
+	case "F":
+		return m.one("F::A(cell(1))", "F::B(2)", "F::C(refcell(3))", "F::M(mutex(4))", "F::G((5, 6))")
 	case "&int", "&D", "&E", "&Cell<int>", "&RefCell<int>", "&Mutex<int>":
 		return m.reference(kind)
 	case "&mut int", "&mut D", "&mut E":
@@ -465,6 +470,27 @@ func (m *texter) arm(pattern, inner, kind string) string {
 	})
 }
 
+// cells is a match of an enum of cells, in which another variant may come in the place of a cell before that is asked by a reference.
+func (m *texter) cells(place string) string {
+	text := "match " + place + " { "
+	for _, c := range []struct {
+		variant, kind string
+		asks          []string
+	}{
+		{"F::A", "&Cell<int>", []string{"get(?)", "set(?, 3)"}}, {"F::C", "&RefCell<int>", []string{"borrow(?)", "borrow_mut(?)"}}, {"F::M", "&Mutex<int>", []string{"lock(?)"}},
+	} {
+		text += m.within(func() string {
+			name := m.name(c.kind)
+			text := c.variant + "(ref " + name + ") => { " + m.one("", place+" = "+m.fresh("F")+"; ")
+			if m.Intn(2) == 0 {
+				text += m.statement()
+			}
+			return text + "eat(" + strings.Replace(m.one(c.asks...), "?", name, 1) + "); }, "
+		})
+	}
+	return text + m.arm("_", "", "") + "} "
+}
+
 func (m *texter) match() string {
 	switch m.Intn(4) {
 	case 0:
@@ -534,6 +560,9 @@ func (m *texter) anyStatement() string {
 
 // filling changes something that keeps values.
 func (m *texter) filling() string {
+	if place := m.place("F", false); place != "" {
+		return m.cells(place)
+	}
 	switch m.Intn(9) {
 	case 0:
 		return "push(" + m.lent("&mut ", "Vec<int>") + ", " + m.value("int") + "); "
@@ -580,8 +609,11 @@ func (m *texter) text() string {
 func madeText(seed int64) string {
 	m := &texter{Rand: rand.New(rand.NewSource(seed)), room: 5 + int(seed%30), wild: 2 + int(seed%4)*30, bold: seed%2 == 0}
 	m.names, m.gives, m.kinds = []*seenName{{name: "n", kind: "int"}}, "int", kindsOfValues
-	if seed%5 < 2 {
+	switch seed % 7 {
+	case 0, 1, 2:
 		m.kinds = kindsOfThreads
+	case 3:
+		m.kinds = kindsOfCells
 	}
 	return m.text()
 }

@@ -138,10 +138,6 @@ func TestForm(t *testing.T) {
 		{"let mut f = F::G((n, 1)); match f { F::G(ref x) => { f = F::B(1); (*x).0 }, _ => 0 }", "WrongForm"},
 		{"let mut f = F::G((n, 1)); match f { F::G(ref x) => { f = F::G((2, 3)); (*x).0 }, _ => 0 }", "WrongKin"},
 		{"let mut f = F::H(&n); match f { F::H(ref x) => { f = F::B(1); **x }, _ => 0 }", "WrongForm"},
-		{"let mut f = F::A(cell(n)); match f { F::A(ref x) => { f = F::B(1); get(x) }, _ => 0 }", "WrongForm"},
-		{"let mut f = F::A(cell(n)); match f { F::A(ref x) => { f = F::B(1); set(x, 2); 0 }, _ => 0 }", "WrongForm"},
-		{"let mut f = F::C(refcell(n)); match f { F::C(ref x) => { f = F::B(1); let g = borrow(x); 0 }, _ => 0 }", "WrongForm"},
-		{"let mut f = F::C(refcell(n)); match f { F::C(ref x) => { f = F::A(cell(1)); let g = borrow(x); 0 }, _ => 0 }", "WrongKin"},
 		// A guard whose cell is none any more.
 		{"let mut f = F::C(refcell(n)); match f { F::C(ref x) => { let g = borrow(x); f = F::B(1); 0 }, _ => 0 }", "WrongForm"},
 		{"let mut f = F::C(refcell(n)); match f { F::C(ref x) => { let g = borrow(x); f = F::A(cell(1)); 0 }, _ => 0 }", "WrongForm"},
